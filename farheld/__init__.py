@@ -1,0 +1,1 @@
+"""Control of a far plant over bad channels with sensors that may lie."""

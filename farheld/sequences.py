@@ -1,0 +1,36 @@
+"""What many constructors ask of the sequences that they are given."""
+
+from farheld.ratios import is_whole
+
+
+def is_sequence(thing, least=0, most=None):
+    """Tell whether a thing is a list or a tuple of least to most things."""
+    if not isinstance(thing, (list, tuple)):
+        return False
+    return least <= len(thing) and (most is None or len(thing) <= most)
+
+
+def is_ascending(thing, least, most, below):
+    """Tell whether a thing is an ascending sequence of unlike whole numbers from 0 to below - 1."""
+    if not is_sequence(thing, least, most):
+        return False
+    low = 0
+    for one in thing:
+        if not is_whole(one, low, below - 1):
+            return False
+        low = one + 1
+    return True
+
+
+def is_order(thing, many):
+    """Tell whether a thing is a sequence in which each number from 0 to many - 1 stands once."""
+    if not is_sequence(thing, many, many):
+        return False
+    if not all([is_whole(one) for one in thing]):
+        return False
+    return sorted(thing) == list(range(many))
+
+
+def places_of(order):
+    """Return where each number stands in an order."""
+    return tuple([order.index(number) for number in range(len(order))])

@@ -1,0 +1,176 @@
+"""The files of the package keep to the parts of the language rules that a reader of the code can count."""
+
+import ast
+import builtins
+import os
+import unittest
+
+HERE = os.path.dirname(os.path.abspath(__file__))
+PACKAGE = os.path.join(os.path.dirname(HERE), "farheld")
+LIBRARY = {
+    "heapq": {"heappush", "heappop", "heapify", "heapreplace", "heappushpop"},
+    "math": {"gcd", "lcm", "isqrt", "comb", "perm", "factorial"},
+}
+CALLED = set(
+    "len range enumerate zip min max sum abs sorted reversed int str bool list tuple dict set isinstance ord repr "
+    "any all divmod ValueError staticmethod property".split()
+)
+METHODS = set(
+    "append clear copy count endswith extend find get index insert isalnum isalpha isdigit islower isspace isupper "
+    "items join keys ljust lower lstrip partition pop remove replace reverse rfind rjust rpartition rsplit rstrip "
+    "setdefault split splitlines startswith strip update upper values zfill bit_length removeprefix removesuffix "
+    "isascii isdecimal isnumeric".split()
+)
+NO_ATTRIBUTES = set(
+    "items keys values pop update append clear extend insert remove reverse setdefault sort args encode decode hex "
+    "fromhex format mro elements open input law".split()
+)
+NO_WORDS = set(
+    "type typing typing_extensions enum Enum IntEnum StrEnum Flag IntFlag Generic Protocol ABC ABCMeta namedtuple "
+    "NamedTuple TypedDict TYPE_CHECKING abstractmethod".split()
+)
+NO_NODES = (
+    ast.AsyncFunctionDef, ast.Await, ast.AsyncFor, ast.AsyncWith, ast.Global, ast.Nonlocal, ast.GeneratorExp,
+    ast.Lambda, ast.Set, ast.SetComp, ast.Div, ast.MatMult, ast.Try, ast.With, ast.Match, ast.NamedExpr, ast.Import,
+    ast.AnnAssign, ast.Delete, ast.Pow,
+)
+
+
+def files():
+    return sorted(name for name in os.listdir(PACKAGE) if name.endswith(".py"))
+
+
+def text_of(name):
+    with open(os.path.join(PACKAGE, name), encoding="utf-8") as file:
+        return file.read()
+
+
+def own_imports(tree):
+    return [node.module for node in tree.body if isinstance(node, ast.ImportFrom) and node.module.startswith("farheld")]
+
+
+class LanguageTest(unittest.TestCase):
+    def trees(self):
+        for name in files():
+            text = text_of(name)
+            yield name, text, ast.parse(text)
+
+    def test_folder_holds_python_files_alone(self):
+        others = [name for name in os.listdir(PACKAGE) if not name.endswith(".py") and name != "__pycache__"]
+        self.assertEqual(others, [])
+
+    def test_sizes_and_characters(self):
+        for name, text, tree in self.trees():
+            lines = text.split("\n")
+            self.assertLessEqual(len(lines) - 1, 399)
+            self.assertTrue(text.endswith("\n") and not text.endswith("\n\n"))
+            for line in lines:
+                self.assertLessEqual(len(line), 120)
+                self.assertTrue(all(" " <= sign <= "~" for sign in line), line)
+                self.assertEqual(line, line.rstrip())
+            for node in ast.walk(tree):
+                if isinstance(node, ast.FunctionDef):
+                    self.assertLessEqual(node.end_lineno - node.lineno + 1, 40, node.name)
+
+    def test_imports(self):
+        for name, _, tree in self.trees():
+            for node in ast.walk(tree):
+                if not isinstance(node, ast.ImportFrom):
+                    continue
+                self.assertEqual(node.level, 0)
+                self.assertIn(node, tree.body)
+                for told in node.names:
+                    self.assertIsNone(told.asname)
+                    if node.module in LIBRARY:
+                        self.assertIn(told.name, LIBRARY[node.module])
+                        continue
+                    source = ast.parse(text_of(node.module.split(".")[1] + ".py"))
+                    self.assertIn(told.name, defined(source), node.module)
+
+    def test_every_import_is_used(self):
+        for name, _, tree in self.trees():
+            used = {node.id for node in ast.walk(tree) if isinstance(node, ast.Name)}
+            self.assertEqual(imported(tree) - used, set())
+
+    def test_no_ring_of_imports(self):
+        links = {name[:-3]: [told.split(".")[1] for told in own_imports(ast.parse(text_of(name)))] for name in files()}
+        done = set()
+        while len(done) < len(links):
+            ready = [name for name in links if name not in done and all(other in done for other in links[name])]
+            self.assertTrue(ready, sorted(set(links) - done))
+            done.update(ready)
+
+    def test_statements_and_expressions(self):
+        for name, _, tree in self.trees():
+            for node in ast.walk(tree):
+                self.assertNotIsInstance(node, NO_NODES)
+                if isinstance(node, ast.Constant):
+                    self.assertNotIsInstance(node.value, (float, complex, bytes))
+                    if isinstance(node.value, str):
+                        self.assertNotIn("%", node.value)
+                if isinstance(node, (ast.FunctionDef, ast.ClassDef)):
+                    told = [ast.unparse(one) for one in node.decorator_list]
+                    self.assertTrue(set(told) <= {"staticmethod", "property"})
+            for node in tree.body:
+                told = isinstance(node, ast.Expr) and isinstance(node.value, ast.Constant)
+                self.assertTrue(told or isinstance(node, (ast.ImportFrom, ast.FunctionDef, ast.ClassDef, ast.Assign)))
+
+    def test_names(self):
+        every = set(dir(builtins))
+        for name, text, tree in self.trees():
+            taken = imported(tree) | {node.name for node in tree.body if isinstance(node, ast.ClassDef)}
+            for node in ast.walk(tree):
+                if isinstance(node, ast.Name) and isinstance(node.ctx, ast.Store):
+                    self.assertNotIn(node.id, every | taken)
+                if isinstance(node, ast.arg):
+                    self.assertNotIn(node.arg, every | taken)
+                if isinstance(node, ast.Name) and isinstance(node.ctx, ast.Load) and node.id in every:
+                    self.assertIn(node.id, CALLED)
+                if isinstance(node, ast.Name):
+                    self.assertNotIn(node.id, NO_WORDS)
+
+    def test_attributes_and_methods(self):
+        attributes, methods = set(), set()
+        for _, _, tree in self.trees():
+            for node in ast.walk(tree):
+                if isinstance(node, ast.Attribute) and isinstance(node.ctx, ast.Store):
+                    attributes.add(node.attr)
+                if isinstance(node, ast.ClassDef):
+                    methods.update(one.name for one in node.body if isinstance(one, ast.FunctionDef))
+        self.assertEqual(attributes & NO_ATTRIBUTES, set())
+        for _, _, tree in self.trees():
+            for node in ast.walk(tree):
+                if isinstance(node, ast.Attribute) and isinstance(node.ctx, ast.Load):
+                    self.assertIn(node.attr, attributes | methods | METHODS)
+
+    def test_a_set_is_made_only_where_it_is_used_up(self):
+        for _, _, tree in self.trees():
+            for node in ast.walk(tree):
+                for child in ast.iter_child_nodes(node):
+                    if isinstance(child, ast.Call) and isinstance(child.func, ast.Name) and child.func.id == "set":
+                        self.assertIsInstance(node, ast.Call)
+                        self.assertIn(node.func.id, ("sorted", "len"))
+
+    def test_equality_asks_for_the_class_first(self):
+        for _, _, tree in self.trees():
+            for node in ast.walk(tree):
+                if isinstance(node, ast.FunctionDef) and node.name == "__eq__":
+                    self.assertTrue(ast.unparse(node.body[0]).startswith("if not isinstance(other, "))
+
+
+def imported(tree):
+    return {told.name for node in tree.body if isinstance(node, ast.ImportFrom) for told in node.names}
+
+
+def defined(tree):
+    names = set()
+    for node in tree.body:
+        if isinstance(node, (ast.FunctionDef, ast.ClassDef)):
+            names.add(node.name)
+        if isinstance(node, ast.Assign):
+            names.update(target.id for target in node.targets)
+    return names
+
+
+if __name__ == "__main__":
+    unittest.main()
