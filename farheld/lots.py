@@ -13,8 +13,8 @@ def least_lots(lots, sensors):
         raise BadLots(0, "many")
     for index, lot in enumerate(lots):
         _check_lot(index, lot, sensors)
-    told = sorted(set([tuple(sorted(set(lot))) for lot in lots]))
-    least = [lot for lot in told if not _is_part(lot, told)]
+    told = [tuple(sorted(set(lot))) for lot in lots]
+    least = [lot for lot in sorted(set(told)) if not _is_part(lot, told)]
     return tuple(least) if least else ((),)
 
 
