@@ -53,6 +53,8 @@ def joined_prices(one, other):
 def is_greatest(use, limit, total, known):
     """Tell whether prices show that no deal has a sum above the total; False if they do not."""
     budget = known.value * limit - (total + 1) * known.bottom
+    if budget < 0:
+        return True
     priced = [outcome for outcome in range(count_outcomes(use)) if known.prices[outcome] > 0]
     columns = [[1 if outcome in heard else 0 for outcome in priced] for heard in use]
     free = [columns[word] for word in range(len(use)) if known.lacks[word] == 0]

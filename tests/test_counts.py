@@ -5,7 +5,6 @@ import time
 from farheld.channels import Channel, beside
 from farheld.counts import MOST, count_messages, counts_behind, largest_deal, list_size, periods_needed
 from farheld.errors import BadBase, CountFull
-from farheld.losses import remainder_by, stepped_basis
 from farheld.ratios import ONE, compare, floor_of, make_ratio, plus, power_of, times
 from farheld.shares import number_of, number_of_uses
 from tests.helpers import DEAD, RING, HeldTest, as_lists, clean_use, each_misses_one, ring
@@ -123,26 +122,6 @@ class DealTest(HeldTest):
         use = ((0, 1, 6, 8), (0, 1, 11), (1, 2, 7), (1, 2, 6), (0, 2, 11), (0, 2, 7), (3, 4, 7, 9), (3, 4),
                (4, 5, 8, 9, 10), (4, 5, 7), (3, 5, 6, 8, 11), (3, 5, 6, 8, 9, 10))
         self.assertEqual([self.dealt(use, limit) for limit in (1, 2, 598, 599)], [2, 6, 1794, 1796])
-
-
-class RemainderTest(HeldTest):
-    def test_stepped_basis(self):
-        source = random.Random(15)
-        for _ in range(100):
-            length = source.randint(1, 4)
-            vectors = [[source.randint(-4, 4) for _ in range(length)] for _ in range(source.randint(0, 4))]
-            basis = stepped_basis(vectors, length)
-            for place, lead in basis:
-                self.assertGreater(lead[place], 0)
-                self.assertFalse(any(lead[:place]))
-            for vector in vectors:
-                self.assertFalse(any(remainder_by(basis, vector)))
-            one = [source.randint(-9, 9) for _ in range(length)]
-            other = list(one)
-            for vector in vectors:
-                many = source.randint(-3, 3)
-                other = [a + many * b for a, b in zip(other, vector)]
-            self.assertEqual(remainder_by(basis, one), remainder_by(basis, other))
 
 
 class CountTest(HeldTest):

@@ -132,6 +132,7 @@ class PlantTest(HeldTest):
         made = self.plant.with_unit(1, (3, 2))
         self.assertEqual(made, Plant(FACTORS, [(1, 1), (1, 2), (7, 2)], [(0, 1), (15, 2), (2, 9)]))
         self.assertEqual(self.plant, Plant(FACTORS, PUSHES, STARTS))
+        self.assertEqual(self.plant.with_unit(2, (1, 2)).pushes, (PUSHES[0], PUSHES[1], (7, 4)))
         for thing in NO_RATIOS + (ZERO, (-1, 2)):
             self.raises(BadUnit, {"unit": thing}, self.plant.with_unit, 0, thing)
             self.raises(NoMode, {"mode": 3}, self.plant.with_unit, 3, thing)

@@ -6,6 +6,7 @@ from fractions import Fraction
 from farheld.errors import Rising
 from farheld.ratios import ONE, ZERO, is_ratio
 from farheld.simplex import Solution, solution_fault, solve_problem
+from farheld.tableaus import Tableau, climbed, first_tableau, mended, pivoted
 from tests.helpers import HeldTest, whole
 
 
@@ -124,11 +125,62 @@ class SolveTest(HeldTest):
                 rows, gains = [row[::-1] for row in rows], gains[::-1]
             self.assertEqual(self.solved(rows, limits, gains).value, (5 ** 12, 1))
 
+    def test_values_of_all_small_problems(self):
+        entries = (-1, 0, 1)
+        for rows in itertools.product(itertools.product(entries, repeat=2), repeat=2):
+            for limits in ((0, 0), (0, 1), (2, 1)):
+                for gains in itertools.product(entries, repeat=2):
+                    solution = self.solved(rows, limits, gains)
+                    if solution is not None:
+                        self.assertEqual(Fraction(*solution.value), solved_by_corners(rows, limits, gains))
+
     def test_nothing_is_changed(self):
         rows, limits, gains = [[1, 1], [1, 3]], [4, 6], [3, 5]
         solve_problem(rows, limits, gains)
         solution_fault(rows, limits, gains, Solution(ZERO, (ZERO, ZERO), (ZERO, ZERO)))
         self.assertEqual((rows, limits, gains), ([[1, 1], [1, 3]], [4, 6], [3, 5]))
+
+
+class TableauTest(HeldTest):
+    def test_mended(self):
+        source = random.Random(61)
+        kinds = {"none": 0, "some": 0}
+        for _ in range(250):
+            columns, many = source.randint(1, 3), source.randint(1, 4)
+            rows = [[source.randint(0, 4) for _ in range(columns)] for _ in range(many)] + [[1] * columns]
+            limits = [source.randint(0, 9) for _ in range(many)] + [9]
+            gains = [source.randint(-2, 6) for _ in range(columns)]
+            table, _ = climbed(first_tableau(rows, limits, gains))
+            for at in range(1, len(table.rows)):
+                if table.inner[at] >= columns:
+                    continue
+                # The amount of this column shall be at least so much more, or at most so much.
+                whole_part = table.rows[at][-1] // table.bottom + source.choice((0, 0, 1, 3))
+                line = table.rows[at]
+                above = line[:-1] + [line[-1] - (whole_part + 1) * table.bottom]
+                below = [-entry for entry in line[:-1]] + [(whole_part // 2) * table.bottom - line[-1]]
+                unit = [int(column == table.inner[at]) for column in range(columns)]
+                turned = [-entry for entry in unit]
+                for row, added, limit in ((above, turned, -whole_part - 1), (below, unit, whole_part // 2)):
+                    made = mended(Tableau(table.bottom, table.rows + [row], table.inner + [99], table.outer))
+                    best = solved_by_corners(rows + [added], limits + [limit], gains)
+                    kinds["none" if best is None else "some"] += 1
+                    if best is None:
+                        self.assertIsNone(made)
+                        continue
+                    self.assertEqual(Fraction(made.rows[0][-1], made.bottom), best)
+                    self.assertTrue(all(entry >= 0 for entry in made.rows[0]))
+                    self.assertTrue(all(line[-1] >= 0 for line in made.rows[1:]))
+        self.assertTrue(min(kinds.values()) > 30, kinds)
+
+    def test_pivots_keep_what_they_are_made_of(self):
+        table = first_tableau([[2, 1], [1, 3]], [4, 6], [1, 1])
+        before = [list(row) for row in table.rows]
+        made = pivoted(table, 1, 0)
+        self.assertEqual((table.rows, table.bottom, table.inner, table.outer), (before, 1, [None, 2, 3], [0, 1]))
+        self.assertEqual((made.rows, made.bottom), ([[1, -1, 4], [1, 1, 4], [-1, 5, 8]], 2))
+        self.assertEqual((made.inner, made.outer), ([None, 0, 3], [2, 1]))
+        self.assertEqual(pivoted(made, 1, 0).rows, before)
 
 
 class SolutionFaultTest(HeldTest):

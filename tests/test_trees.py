@@ -4,7 +4,7 @@ import time
 from farheld.counts import count_messages, counts_behind
 from farheld.errors import ManyMessages
 from farheld.trees import Telling, tree_fault, tree_of
-from tests.helpers import DEAD, RING, HeldTest, as_lists, clean_use, ring
+from tests.helpers import DEAD, RING, HeldTest, as_lists, clean_use, each_misses_one, ring
 from tests.test_shares import some_use
 
 
@@ -23,7 +23,10 @@ def paths_of(telling):
 
 
 def some_telling(source, most_uses=3):
-    uses = [some_use(source, source.randint(1, 5), source.randint(1, 5)) for _ in range(source.randint(0, most_uses))]
+    uses = []
+    for _ in range(source.randint(0, most_uses)):
+        one = some_use(source, source.randint(1, 5), source.randint(1, 5))
+        uses.append(source.choice((one, ring(3), RING, each_misses_one(4))))
     start = source.randint(1, 4)
     many = count_messages(uses, start)
     return Telling(as_lists(uses, False), source.choice((many, source.randint(0, many))), start)
