@@ -17,8 +17,8 @@ class Channel:
             raise BadChannel("outcomes", 0, 0)
         if not is_sequence(table, 1, MOST_PHASES):
             raise BadChannel("phases", 0, 0)
-        for phase, row in enumerate(table):
-            _check_row(outcomes, phase, row, table[0])
+        for phase, words in enumerate(table):
+            _check_row(outcomes, phase, words, table[0])
         self.outcomes = outcomes
         self.table = tuple([tuple([tuple(heard) for heard in row]) for row in table])
         self.words = len(self.table[0])

@@ -59,8 +59,8 @@ def is_greatest(use, limit, total, known):
     columns = [[1 if outcome in heard else 0 for outcome in priced] for heard in use]
     free = [columns[word] for word in range(len(use)) if known.lacks[word] == 0]
     steps = [(known.lacks[word], columns[word]) for word in range(len(use)) if known.lacks[word] > 0]
-    for place, outcome in enumerate(priced):
-        steps.append((known.prices[outcome], [1 if at == place else 0 for at in range(len(priced))]))
+    for place in range(len(priced)):
+        steps.append((known.prices[priced[place]], [1 if at == place else 0 for at in range(len(priced))]))
     basis = stepped_basis(free, len(priced))
     return _is_out_of_reach([limit] * len(priced), steps, basis, budget)
 

@@ -142,7 +142,7 @@ def find_clearance(world):
 def clearance_fault(world, clearance):
     """Return the first fault of a Clearance, None if the world is kept by it."""
     tables = [sensor.channel.table for sensor in world.sensors]
-    sizes = [[len(use) for use in table] for table in tables]
+    sizes = [[len(one) for one in told] for told in tables]
     if not _are_mixtures(clearance.mixtures, sizes):
         return "mixtures"
     kept = []
@@ -164,7 +164,8 @@ def _rate_bar_fault(world, bar):
     if not isinstance(bar.modes, tuple) or not is_ascending(bar.modes, 1, modes, modes):
         return "modes"
     tables = [world.sensors[sensor].channel.table for sensor in list_tellers(world, bar.lot, bar.modes)]
-    if not _are_mixtures(bar.weights, [[count_outcomes(use) for use in table] for table in tables]):
+    sizes = [[count_outcomes(one) for one in told] for told in tables]
+    if not _are_mixtures(bar.weights, sizes):
         return "weights"
     kept = period_growth(world, bar.modes)
     for table, row in zip(tables, bar.weights):

@@ -239,6 +239,8 @@ class PeriodsTest(HeldTest):
     def test_told_periods(self):
         self.assertEqual(periods_needed([RING], (9, 4)), 3)
         self.assertEqual(periods_needed([RING], ONE), 1)
+        # One period tells just 2, and what is told must be more.
+        self.assertEqual(periods_needed([RING], (2, 1)), 2)
         self.assertEqual(periods_needed([ring(3)], ONE, 2), 1)
         self.assertEqual(periods_needed([DEAD, clean_use(2)], (199, 100)), 1)
         self.assertEqual(periods_needed([each_misses_one(12)], ONE, 11), 1)

@@ -122,8 +122,10 @@ class ShareFaultTest(HeldTest):
         self.assertEqual(self.fault(weights=((1, 2), HALF, ZERO)), ("below", 1))
 
     def test_number(self):
-        for thing in (None, 1.5, [3, 2], (6, 4), (2, 3), True):
+        for thing in (None, 1.5, [3, 2], (6, 4), (2, 3), True, (3.0, 2)):
             self.assertEqual(self.fault(number=thing), ("number", None))
+        whole_share = Share((1, 2), (2, True), (HALF, HALF), (HALF, HALF))
+        self.assertEqual(share_fault(clean_use(2), whole_share), ("number", None))
 
     def test_other_shares_that_are_right(self):
         use = ((0,), (0,), (2,), (0, 2))

@@ -202,7 +202,7 @@ class SolutionFaultTest(HeldTest):
             self.assertEqual(self.fault(None, whole(3, 1), thing), "prices", thing)
 
     def test_value(self):
-        for thing in (None, 14, True, [14, 1], (28, 2), (13, 1), "14"):
+        for thing in (None, 14, True, [14, 1], (28, 2), (13, 1), "14", (14, True), (14.0, 1)):
             self.assertEqual(self.fault(thing, whole(3, 1), whole(2, 1)), "value")
         self.assertEqual(self.fault((12, 1), whole(4, 0), whole(2, 1)), "value")
         self.assertEqual(self.fault((14, 1), whole(4, 0), whole(2, 1)), "value")

@@ -136,6 +136,12 @@ class TellingTest(HeldTest):
         self.assertEqual(telling.messages_left(path), (599,))
         self.assertLess(time.process_time() - begun, 4)
 
+    def test_deals_ahead_of_uses_that_tell_600(self):
+        telling = Telling([RING, ring(3), each_misses_one(4)] + [clean_use(12)] * 5, 600)
+        for at, use in enumerate(telling.uses[:-3]):
+            for size in (0, 1, 599, 600):
+                self.assertEqual((len(telling.dealt_at(at, size)), sum(telling.dealt_at(at, size))), (len(use), size))
+
     def test_lists_are_finished_by_other_uses(self):
         source = random.Random(35)
         for _ in range(25):
