@@ -12,7 +12,7 @@ from heapq import heappop, heappush
 
 from farheld.uses import count_outcomes
 
-MOST_REMAINDERS = 3000
+MOST_REMAINDERS = 1500
 
 
 class Prices:
@@ -56,13 +56,19 @@ def is_greatest(use, limit, total, known):
     if budget < 0:
         return True
     priced = [outcome for outcome in range(count_outcomes(use)) if known.prices[outcome] > 0]
-    columns = [[1 if outcome in heard else 0 for outcome in priced] for heard in use]
-    free = [columns[word] for word in range(len(use)) if known.lacks[word] == 0]
-    steps = [(known.lacks[word], columns[word]) for word in range(len(use)) if known.lacks[word] > 0]
-    for place in range(len(priced)):
-        steps.append((known.prices[priced[place]], [1 if at == place else 0 for at in range(len(priced))]))
+    steps = [(known.prices[outcome], _column([outcome], priced)) for outcome in priced]
+    free = []
+    for heard, lack in zip(use, known.lacks):
+        if lack > 0:
+            steps.append((lack, _column(heard, priced)))
+        else:
+            free.append(_column(heard, priced))
     basis = stepped_basis(free, len(priced))
     return _is_out_of_reach([limit] * len(priced), steps, basis, budget)
+
+
+def _column(heard, priced):
+    return [1 if outcome in heard else 0 for outcome in priced]
 
 
 def _is_out_of_reach(start, steps, basis, budget):
