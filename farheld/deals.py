@@ -20,6 +20,7 @@ class Search:
         self.made = 0
 
     def is_done(self):
+        """Tell whether the best deal known is enough."""
         return self.enough is not None and sum(self.best) >= self.enough
 
     def is_settled(self, table):
@@ -122,9 +123,12 @@ def _branches(search, table):
         return []
     row = table.rows[_most_broken(table, len(search.use))]
     whole = row[-1] // table.bottom
-    below = [-entry for entry in row[:-1]] + [whole * table.bottom - row[-1]]
-    above = row[:-1] + [row[-1] - (whole + 1) * table.bottom]
-    return [_with_row(table, line, search.next_number()) for line in (below, above)]
+    # The word's amount is at most its whole part, or at least one more.
+    at_most = [-entry for entry in row[:-1]] + [whole * table.bottom - row[-1]]
+    at_least = row[:-1] + [row[-1] - (whole + 1) * table.bottom]
+    below = _with_row(table, at_most, search.next_number())
+    above = _with_row(table, at_least, search.next_number())
+    return [below, above]
 
 
 def _with_cut(table, number):

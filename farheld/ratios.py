@@ -42,14 +42,17 @@ def _lowest(top, bottom):
 
 
 def plus(one, other):
+    """Return the sum of two ratios."""
     return _lowest(one[0] * other[1] + other[0] * one[1], one[1] * other[1])
 
 
 def minus(one, other):
+    """Return the first ratio less the second."""
     return _lowest(one[0] * other[1] - other[0] * one[1], one[1] * other[1])
 
 
 def times(one, other):
+    """Return the product of two ratios."""
     return _lowest(one[0] * other[0], one[1] * other[1])
 
 
@@ -61,6 +64,7 @@ def over(one, other):
 
 
 def negative(one):
+    """Return the ratio with the other sign."""
     return (-one[0], one[1])
 
 
@@ -78,6 +82,7 @@ def compare(one, other):
 
 
 def sum_of(ratios):
+    """Return the sum of a sequence, 0 for an empty one."""
     total = ZERO
     for one in ratios:
         total = plus(total, one)
@@ -85,6 +90,7 @@ def sum_of(ratios):
 
 
 def product_of(ratios):
+    """Return the product of a sequence, 1 for an empty one."""
     total = ONE
     for one in ratios:
         total = times(total, one)
