@@ -1,6 +1,6 @@
 """Lots: the groups of sensors that may lie together."""
 
-from farheld.errors import BadLots
+from farheld.errors import BadLots, NoLot
 from farheld.ratios import is_whole
 from farheld.sequences import is_sequence
 
@@ -21,6 +21,21 @@ def least_lots(lots, sensors):
 def lies_within(group, lots):
     """Tell whether one lot holds all sensors of a group."""
     return any([_holds(lot, group) for lot in lots])
+
+
+def known_lot(thing, lots):
+    """Return the lot of a tuple of lots that a tuple or a list tells, or raise NoLot."""
+    told = tuple(thing) if isinstance(thing, list) else thing
+    if not is_lot_of(told, lots):
+        raise NoLot(thing)
+    return told
+
+
+def is_lot_of(thing, lots):
+    """Tell whether a thing is a tuple of numbers that is one of the lots."""
+    if not isinstance(thing, tuple) or not all([is_whole(sensor) for sensor in thing]):
+        return False
+    return thing in lots
 
 
 def _check_lot(index, lot, sensors):

@@ -43,17 +43,31 @@ def _lowest(top, bottom):
 
 def plus(one, other):
     """Return the sum of two ratios."""
-    return _lowest(one[0] * other[1] + other[0] * one[1], one[1] * other[1])
+    return _joined(one, other[0], other[1])
 
 
 def minus(one, other):
     """Return the first ratio less the second."""
-    return _lowest(one[0] * other[1] - other[0] * one[1], one[1] * other[1])
+    return _joined(one, -other[0], other[1])
+
+
+def _joined(one, top, bottom):
+    # In lowest terms only what the bottoms share can be divided out of the sum. So beside a
+    # small number a great one is added to without a search for all that its parts share.
+    shared = gcd(one[1], bottom)
+    if shared == 1:
+        return (one[0] * bottom + top * one[1], one[1] * bottom)
+    part = one[1] // shared
+    total = one[0] * (bottom // shared) + top * part
+    rest = gcd(total, shared)
+    return (total // rest, part * (bottom // rest))
 
 
 def times(one, other):
     """Return the product of two ratios."""
-    return _lowest(one[0] * other[0], one[1] * other[1])
+    left = gcd(one[0], other[1])
+    right = gcd(other[0], one[1])
+    return ((one[0] // left) * (other[0] // right), (one[1] // right) * (other[1] // left))
 
 
 def over(one, other):
@@ -75,7 +89,13 @@ def size_of(one):
 
 def compare(one, other):
     """Return -1, 0 or 1 as the first ratio is less, equal or greater."""
-    gap = one[0] * other[1] - other[0] * one[1]
+    if one[1] == other[1]:
+        gap = one[0] - other[0]
+    else:
+        # Beside the products of great numbers their whole parts are cheap.
+        gap = one[0] // one[1] - other[0] // other[1]
+        if gap == 0:
+            gap = one[0] * other[1] - other[0] * one[1]
     if gap == 0:
         return 0
     return 1 if gap > 0 else -1

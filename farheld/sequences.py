@@ -10,6 +10,11 @@ def is_sequence(thing, least=0, most=None):
     return least <= len(thing) and (most is None or len(thing) <= most)
 
 
+def is_couple(thing):
+    """Tell whether a thing is a sequence of two things."""
+    return isinstance(thing, (list, tuple)) and len(thing) == 2
+
+
 def is_ascending(thing, least, most, below):
     """Tell whether a thing is an ascending sequence of unlike whole numbers from 0 to below - 1."""
     if not is_sequence(thing, least, most):
@@ -33,4 +38,7 @@ def is_order(thing, many):
 
 def places_of(order):
     """Return where each number stands in an order."""
-    return tuple([order.index(number) for number in range(len(order))])
+    places = [0] * len(order)
+    for place, number in enumerate(order):
+        places[number] = place
+    return tuple(places)

@@ -1,6 +1,7 @@
 """Verdicts: whether a world can be kept, and the certificates that show it."""
 
 from farheld.errors import Barred
+from farheld.lots import is_lot_of
 from farheld.ratios import ONE, compare, greatest_of, is_whole, least_of, over, product_of, size_of, sum_of, times
 from farheld.sequences import is_ascending
 from farheld.shares import find_share, is_mixture, number_of_uses
@@ -122,7 +123,7 @@ def bar_fault(world, bar):
         return _rate_bar_fault(world, bar)
     if not is_whole(bar.mode) or bar.mode not in world.plant.growing:
         return "mode"
-    if not _is_lot(world, bar.first) or not _is_lot(world, bar.second):
+    if not is_lot_of(bar.first, world.lots) or not is_lot_of(bar.second, world.lots):
         return "lot"
     return "watcher" if list_watchers(world, bar.first, bar.second, bar.mode) else None
 
@@ -158,7 +159,7 @@ def clearance_fault(world, clearance):
 
 
 def _rate_bar_fault(world, bar):
-    if not _is_lot(world, bar.lot):
+    if not is_lot_of(bar.lot, world.lots):
         return "lot"
     modes = world.plant.modes
     if not isinstance(bar.modes, tuple) or not is_ascending(bar.modes, 1, modes, modes):
@@ -195,12 +196,6 @@ def _greatest_met(use, mixture):
     for outcome in range(count_outcomes(use)):
         sums.append(sum_of([one for heard, one in zip(use, mixture) if outcome in heard]))
     return greatest_of(sums)
-
-
-def _is_lot(world, thing):
-    if not isinstance(thing, tuple) or not all([is_whole(sensor) for sensor in thing]):
-        return False
-    return thing in world.lots
 
 
 def _sees_some(world, sensor, modes):

@@ -80,7 +80,7 @@ class World:
 
     def uses(self, sensor, phase, ticks):
         """Return what a sensor's channel does in so many ticks from a phase on."""
-        self._check_sensor(sensor)
+        self.check_sensor(sensor)
         check_phase(phase)
         check_ticks(ticks)
         first = phase % self.period
@@ -117,14 +117,14 @@ class World:
 
     def with_channel(self, sensor, channel):
         """Return the world in which a sensor speaks over another channel."""
-        self._check_sensor(sensor)
+        self.check_sensor(sensor)
         sensors = list(self.sensors)
         sensors[sensor] = Sensor(sensors[sensor].seen, channel)
         return World(self.plant, sensors, self.lots)
 
     def silenced(self, sensor):
         """Return the world in which a sensor's channel is silenced."""
-        self._check_sensor(sensor)
+        self.check_sensor(sensor)
         return self.with_channel(sensor, self.sensors[sensor].channel.silenced())
 
     def with_sensors(self, order):
@@ -135,7 +135,8 @@ class World:
         lots = [[names[sensor] for sensor in lot] for lot in self.lots]
         return World(self.plant, [self.sensors[old] for old in order], lots)
 
-    def _check_sensor(self, sensor):
+    def check_sensor(self, sensor):
+        """Raise NoSensor unless this is a sensor of the world."""
         if not is_whole(sensor, 0, len(self.sensors) - 1):
             raise NoSensor(sensor)
 

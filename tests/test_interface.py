@@ -60,6 +60,55 @@ MODULES = {
         "RateBar(lot, modes, weights)", "TrustBar(mode, first, second)", "Clearance(mixtures, witnesses)",
         "RateBar.__eq__(self, other)", "TrustBar.__eq__(self, other)", "Clearance.__eq__(self, other)",
     ],
+    "changes": [
+        "add_sensor(world, sensor)", "add_lot(world, lot)", "drop_lot(world, lot)", "leave_out_mode(world, mode)",
+        "clear_outcome(world, sensor, phase, word, outcome)", "put_factor(world, mode, phase, factor)",
+    ],
+    "digits": [
+        "count_cells(counts, mode)", "count_told(counts, sensor)", "cell_digits(counts, mode, cell)",
+        "join_cell(counts, mode, digits)", "sensor_message(counts, sensor, cells)",
+        "message_digits(counts, sensor, message)", "join_cells(counts, messages)",
+    ],
+    "splits": [
+        "block_growth(world, mode, periods)", "start_size(world, sensor)", "sensor_room(world, sensor, periods)",
+        "is_listed(world, sensor)", "find_helper(world, guess, mode)", "list_tasks(world, guess, counts, helper)",
+        "listing_periods(world, guess, counts)", "find_split(world, guess, blocks=8, idle=0)",
+        "plan_splits(world, blocks=8, idle=0)", "split_fault(world, split)",
+        "Split(guess, checked, idle, telling, listing, counts)", "Split.__eq__(self, other)",
+    ],
+    "forms": ["form_value(form, registers)", "is_form(thing, registers)", "make_form(constant, *parts)"],
+    "programs": [
+        "Controller(outcomes, modes, registers, rows, first=0)", "Controller.__len__(self)",
+        "Controller.__eq__(self, other)", "Controller.find_move(self, state, outcomes)",
+        "Coder(words, modes, rules, memories=1, first=0)", "Coder.__eq__(self, other)",
+        "Coder.find_cuts(self, state, registers)", "Coder.find_places(self, state, registers, positions)",
+        "Coder.find_reply(self, state, memory, places)", "Coder.say(self, state, registers, memory, positions)",
+        "Program(controller, coders)", "Program.__len__(self)", "Program.__eq__(self, other)",
+        "Program.with_move(self, state, place, move)", "Program.with_reply(self, sensor, state, place, reply)",
+        "Program.rename_states(self, names)", "Program.rename_memories(self, sensor, names)",
+    ],
+    "fitting": ["still_program(world)", "delay_program(program, late)", "fit_fault(world, program)"],
+    "programtext": ["text_of_program(program)", "program_of_text(text)"],
+    "running": [
+        "first_pose(world, program, start)", "play_tick(world, program, pose, tick)", "honest_words(program, pose)",
+        "possible_outcomes(world, phase, words)", "run_fault(world, program, run)",
+        "beyond(world, program, run, bound)", "greatest_sizes(world, program, run)", "walk(world, program, run)",
+        "go_on(world, program, pose, liars, ticks)", "play_run(world, program, start, liars, picks)",
+        "Pose(tick, positions, state, registers, memories)", "Pose.__eq__(self, other)", "Run(start, liars, ticks)",
+        "Run.__eq__(self, other)",
+    ],
+    "boxes": [
+        "volume_of(pieces)", "shadow_of(pieces, axis)", "overlap_of(pieces)", "piece_at(pieces, point)",
+        "cut_pieces(pieces, axis, cuts)", "widened_pieces(pieces, axis, by)", "moved_pieces(pieces, factors, shifts)",
+        "pull_back(sides, axis, by, point)", "Piece(sides, memories)", "Piece.__eq__(self, other)",
+    ],
+    "clouds": [
+        "first_cloud(world, program, modes, liars)", "next_cloud(world, program, cloud, outcomes)",
+        "kept_volumes(world, program, cloud)", "greatest_row(world, program, cloud)",
+        "trace_run(world, program, clouds, point)",
+    ],
+    "twins": ["twin_gap(world, bar, ticks)", "twin_ticks(world, bar, bound)", "twin_runs(world, program, bar, ticks)"],
+    "driving": ["ticks_needed(world, bar, bound)", "drive_out(world, program, bar, bound)"],
 }
 
 
@@ -85,9 +134,17 @@ class InterfaceTest(unittest.TestCase):
         channels = importlib.import_module("farheld.channels")
         self.assertIsInstance(vars(channels.Channel)["clean"], staticmethod)
 
-    def test_walk_rate_bars_is_a_generator(self):
+    def test_generators(self):
         verdicts = importlib.import_module("farheld.verdicts")
         self.assertTrue(inspect.isgeneratorfunction(verdicts.walk_rate_bars))
+        running = importlib.import_module("farheld.running")
+        self.assertTrue(inspect.isgeneratorfunction(running.possible_outcomes))
+
+    def test_split_periods_is_a_property_and_clouds_are_a_class(self):
+        splits = importlib.import_module("farheld.splits")
+        self.assertIsInstance(vars(splits.Split)["periods"], property)
+        clouds = importlib.import_module("farheld.clouds")
+        self.assertEqual(clouds.Cloud.__module__, "farheld.clouds")
 
 
 if __name__ == "__main__":

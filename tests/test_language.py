@@ -31,9 +31,11 @@ NO_WORDS = set(
 )
 NO_NODES = (
     ast.AsyncFunctionDef, ast.Await, ast.AsyncFor, ast.AsyncWith, ast.Global, ast.Nonlocal, ast.GeneratorExp,
-    ast.Lambda, ast.Set, ast.SetComp, ast.Div, ast.MatMult, ast.Try, ast.With, ast.Match, ast.NamedExpr, ast.Import,
-    ast.AnnAssign, ast.Delete, ast.Pow,
+    ast.Set, ast.SetComp, ast.Div, ast.MatMult, ast.With, ast.Match, ast.NamedExpr, ast.Import, ast.AnnAssign, ast.Pow,
 )
+BAD_BEGINNINGS = ("_wall", "_pe_", "_dcw_", "_enum_", "_cm_", "_twin_re_", "_lay_", "_law_", "_stub_", "_sre", "_WallAttr")
+BAD_NAMES = ("_cold", "_tuplegetter", "_outside", "_record", "_written_out", "_member_names")
+NEVER = ("mro", "elements", "open", "input", "law", "version_info", "with_traceback", "add_note")
 
 
 def files():
@@ -142,6 +144,118 @@ class LanguageTest(unittest.TestCase):
             for node in ast.walk(tree):
                 if isinstance(node, ast.Attribute) and isinstance(node.ctx, ast.Load):
                     self.assertIn(node.attr, attributes | methods | METHODS)
+
+    def test_names_are_plain(self):
+        for _, _, tree in self.trees():
+            for node in ast.walk(tree):
+                names = []
+                if isinstance(node, (ast.FunctionDef, ast.ClassDef)):
+                    names.append(node.name)
+                for kind, part in ((ast.Name, "id"), (ast.arg, "arg"), (ast.Attribute, "attr"), (ast.keyword, "arg")):
+                    if isinstance(node, kind):
+                        names.append(getattr(node, part))
+                for name in names:
+                    if name in ("__init__", "__eq__", "__len__", "_"):
+                        continue
+                    self.assertRegex(name, "^_?[A-Za-z][A-Za-z0-9_]*$")
+                    self.assertFalse(name.startswith(BAD_BEGINNINGS + BAD_NAMES) or name in NEVER, name)
+
+    def test_underscore_is_never_read(self):
+        for _, _, tree in self.trees():
+            for node in ast.walk(tree):
+                if isinstance(node, ast.Name) and node.id == "_":
+                    self.assertIsInstance(node.ctx, ast.Store)
+
+    def test_own_errors_alone_are_caught(self):
+        own = {node.name for node in ast.parse(text_of("errors.py")).body if isinstance(node, ast.ClassDef)}
+        for _, _, tree in self.trees():
+            for node in ast.walk(tree):
+                if isinstance(node, ast.Try):
+                    self.assertEqual(node.finalbody, [])
+                    for handler in node.handlers:
+                        self.assertIn(handler.type.id, own)
+                if isinstance(node, ast.Raise) and node.exc is not None:
+                    self.assertIn(node.exc.func.id, own | {"ValueError"})
+
+    def test_identity_is_asked_of_none_alone(self):
+        for _, _, tree in self.trees():
+            for node in ast.walk(tree):
+                if isinstance(node, ast.Compare):
+                    for sign, side in zip(node.ops, node.comparators):
+                        if isinstance(sign, (ast.Is, ast.IsNot)):
+                            self.assertTrue(isinstance(side, ast.Constant) and side.value in (None, True, False))
+
+    def test_deleted_are_items_alone(self):
+        for _, _, tree in self.trees():
+            for node in ast.walk(tree):
+                if isinstance(node, ast.Delete):
+                    self.assertTrue(all(isinstance(target, ast.Subscript) for target in node.targets))
+
+    def test_keywords_of_builtins(self):
+        lets = {"sorted": ("key", "reverse"), "min": ("key", "default"), "max": ("key", "default")}
+        for _, _, tree in self.trees():
+            for node in ast.walk(tree):
+                if isinstance(node, ast.Call) and isinstance(node.func, ast.Name) and node.func.id in dir(builtins):
+                    self.assertTrue({told.arg for told in node.keywords} <= set(lets.get(node.func.id, ())), node.func.id)
+                if isinstance(node, ast.Call) and isinstance(node.func, ast.Attribute) and node.func.attr in METHODS:
+                    self.assertEqual(node.keywords, [])
+
+    def test_lambdas_stand_alone(self):
+        for _, _, tree in self.trees():
+            lines = [node.lineno for node in ast.walk(tree) if isinstance(node, ast.Lambda)]
+            self.assertEqual(len(lines), len(set(lines)))
+
+    def test_methods_and_attributes_of_a_class_differ(self):
+        for _, _, tree in self.trees():
+            for node in tree.body:
+                if isinstance(node, ast.ClassDef):
+                    methods = [one.name for one in node.body if isinstance(one, ast.FunctionDef)]
+                    self.assertEqual(len(methods), len(set(methods)))
+                    stored = {one.attr for one in ast.walk(node) if isinstance(one, ast.Attribute) and isinstance(one.ctx, ast.Store)}
+                    self.assertEqual(stored & set(methods), set())
+
+    def test_generators_are_iterated_at_once(self):
+        generators = set()
+        for _, _, tree in self.trees():
+            for node in ast.walk(tree):
+                if isinstance(node, ast.FunctionDef) and any(isinstance(one, ast.Yield) for one in ast.walk(node)):
+                    generators.add(node.name)
+        self.assertEqual(generators, {"walk_rate_bars", "possible_outcomes", "walk_slabs"})
+        for _, _, tree in self.trees():
+            held = {id(node.iter) for node in ast.walk(tree) if isinstance(node, (ast.For, ast.comprehension))}
+            for node in ast.walk(tree):
+                if isinstance(node, ast.Call) and isinstance(node.func, ast.Name) and node.func.id in ("list", "tuple"):
+                    held.update(id(one) for one in node.args)
+            for node in ast.walk(tree):
+                if isinstance(node, ast.Call) and isinstance(node.func, ast.Name) and node.func.id in generators:
+                    self.assertIn(id(node), held)
+
+    def test_views_and_zips_are_iterated_at_once(self):
+        takers = ("list", "tuple", "dict", "sorted", "sum", "any", "all", "enumerate", "zip", "min", "max")
+        for _, _, tree in self.trees():
+            held = {id(node.iter) for node in ast.walk(tree) if isinstance(node, (ast.For, ast.comprehension))}
+            for node in ast.walk(tree):
+                if isinstance(node, ast.Call) and isinstance(node.func, ast.Name) and node.func.id in takers:
+                    held.update(id(one) for one in node.args)
+            for node in ast.walk(tree):
+                if not isinstance(node, ast.Call):
+                    continue
+                name = getattr(node.func, "id", getattr(node.func, "attr", ""))
+                if name in ("zip", "enumerate", "reversed", "items", "values", "keys"):
+                    self.assertIn(id(node), held, ast.unparse(node))
+
+    def test_what_a_loop_goes_over_is_not_changed_in_it(self):
+        changing = {"append", "extend", "insert", "pop", "remove", "reverse", "setdefault", "update", "clear"}
+        for _, _, tree in self.trees():
+            for loop in ast.walk(tree):
+                if not isinstance(loop, ast.For):
+                    continue
+                over = {ast.unparse(node) for node in ast.walk(loop.iter) if isinstance(node, (ast.Name, ast.Attribute))}
+                for node in [one for part in loop.body for one in ast.walk(part)]:
+                    if isinstance(node, ast.Call) and isinstance(node.func, ast.Attribute) and node.func.attr in changing:
+                        self.assertNotIn(ast.unparse(node.func.value), over)
+                    if isinstance(node, ast.Subscript) and isinstance(node.ctx, (ast.Store, ast.Del)):
+                        self.assertNotIn(ast.unparse(node.value), over)
 
     def test_a_set_is_made_only_where_it_is_used_up(self):
         for _, _, tree in self.trees():

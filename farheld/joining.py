@@ -1,0 +1,41 @@
+"""Pieces that touch are joined where together they are a box."""
+
+from farheld.boxes import Piece
+
+
+def joined_pieces(pieces):
+    """Return disjoint pieces that cover the same, but for points on ends, with touching ones joined."""
+    parts = [(piece.sides, piece.memories) for piece in pieces]
+    axes = len(parts[0][0])
+    many = len(parts) + 1
+    while 1 < len(parts) < many:
+        many = len(parts)
+        for axis in range(axes):
+            parts = _joined_along(parts, axis)
+    return [Piece(sides, memories) for sides, memories in parts]
+
+
+def _joined_along(parts, axis):
+    """Return parts with those joined that touch along an axis and are alike in all else."""
+    rows = {}
+    for sides, memories in parts:
+        key = (sides[:axis], sides[axis + 1:], memories)
+        low, high = sides[axis]
+        if key not in rows:
+            rows[key] = {}
+        rows[key][low] = high
+    told = []
+    for (ahead, behind, memories), highs in rows.items():
+        ends = {high: True for high in highs.values()}
+        for low in highs:
+            if low not in ends:
+                told.append((ahead + (_chained(low, highs),) + behind, memories))
+    return told
+
+
+def _chained(low, highs):
+    """Return the side from a low end on through all sides that begin where another one ends."""
+    high = highs[low]
+    while high in highs:
+        high = highs[high]
+    return (low, high)
