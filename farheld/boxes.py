@@ -80,16 +80,26 @@ def widened_pieces(pieces, axis, by):
     highs = _claims_along(pieces, axis, [piece.sides[axis][1] for piece in pieces], True)
     told = []
     for index, piece in enumerate(pieces):
-        whole = _flat(piece.sides, axis)
-        low, high = piece.sides[axis]
-        end, top = minus(low, by), plus(high, by)
-        below = [(flat, (end, low)) for flat in lows[index] if flat != whole]
-        above = [(flat, (high, top)) for flat in highs[index] if flat != whole]
-        # What is lowest or highest all over its cross section is widened itself, else parts are added.
-        side = (end if whole in lows[index] else low, top if whole in highs[index] else high)
-        for flat, part in [(whole, side)] + below + above:
-            told.append((index, Piece(flat[:axis] + (part,) + flat[axis:], tuple(piece.memories))))
+        if lows[index] or highs[index]:
+            told.extend([(index, part) for part in _widened_parts(piece, axis, by, lows[index], highs[index])])
+        else:
+            told.append((index, Piece(_tuples(piece.sides), tuple(piece.memories))))
     return tuple(told)
+
+
+def _widened_parts(piece, axis, by, lows, highs):
+    """Return a piece, widened where the parts of its cross section are that are lowest and highest there."""
+    whole = _flat(piece.sides, axis)
+    low, high = piece.sides[axis]
+    end, top = minus(low, by), plus(high, by)
+    below = [(flat, (end, low)) for flat in lows if flat != whole]
+    above = [(flat, (high, top)) for flat in highs if flat != whole]
+    # What is lowest or highest all over its cross section is widened itself, else parts are added.
+    side = (end if whole in lows else low, top if whole in highs else high)
+    told = []
+    for flat, part in [(whole, side)] + below + above:
+        told.append(Piece(flat[:axis] + (part,) + flat[axis:], tuple(piece.memories)))
+    return told
 
 
 def pull_back(sides, axis, by, point):
@@ -135,6 +145,10 @@ def count_below(places, one, with_equal):
         else:
             last = middle
     return first
+
+
+def _tuples(sides):
+    return tuple([tuple(side) for side in sides])
 
 
 def _flat(sides, axis):

@@ -2,10 +2,10 @@
 
 from math import lcm
 
-from farheld.boxes import Piece, is_inside, moved_side, piece_at, pull_back, widened_pieces
+from farheld.boxes import Piece, moved_side, piece_at, pull_back, widened_pieces
 from farheld.errors import BadPoint, Unheard
 from farheld.joining import joined_pieces
-from farheld.ratios import ZERO, is_ratio, is_whole, make_ratio, minus, plus, times
+from farheld.ratios import ZERO, compare, is_ratio, is_whole, make_ratio, minus, negative, plus, times
 from farheld.running import Pose, Run, inputs_of, pose_behind, registers_behind, replies_at
 from farheld.sequences import is_sequence
 from farheld.sights import Sight
@@ -49,6 +49,9 @@ def kept_volumes(world, program, cloud):
 
 def greatest_row(world, program, cloud):
     """Return the row that keeps the greatest volume, of equal ones the least row."""
+    sure = _sure_outcomes(world, program, cloud)
+    if None not in sure:
+        return sure
     volumes, _ = _volumes_by_words(world, program, cloud)
     kept = _volumes_by_rows(volumes, _outcomes_worth_trying(volumes, world.outcomes))
     best = None
@@ -88,16 +91,15 @@ def trace_run(world, program, clouds, point):
     pose = _zero_pose(world, program)
     start = pose.positions
     ticks = []
-    for cloud, place in zip(clouds, points):
-        tick = _tick_at(world, program, pose, cloud.liars, cloud.outcomes, start)
-        behind = pose_behind(world, program, pose, replies_at(program, pose), tick)
+    for passed, places in zip(clouds, points):
+        words, outcomes, _ = _tick_at(world, program, pose, passed.liars, passed.outcomes, start)
+        replies = replies_at(program, pose)
+        unpushed = pose_behind(world, program, pose, replies, (words, outcomes, start))
         pushes = list(start)
-        for mode, one in zip(cloud.modes, place):
-            pushes[mode] = minus(one, behind.positions[mode])
-        tick = (tick[0], tick[1], tuple(pushes))
-        ticks.append(tick)
-        positions = [plus(one, push) for one, push in zip(behind.positions, pushes)]
-        pose = Pose(behind.tick, tuple(positions), behind.state, behind.registers, behind.memories)
+        for mode, place in zip(passed.modes, places):
+            pushes[mode] = minus(place, unpushed.positions[mode])
+        ticks.append((words, outcomes, tuple(pushes)))
+        pose = pose_behind(world, program, pose, replies, ticks[-1])
     return Run(start, clouds[0].liars, tuple(ticks))
 
 
@@ -150,11 +152,14 @@ class Step:
             told.append(None if one is None else plus(times(one, self.factors[mode]), self.inputs[mode]))
         return tuple(told)
 
-    def source_of(self, mode, place):
-        """Return the place of a mode from which its factor and its input lead to a place."""
-        top, bottom = self.factors[mode]
-        back = make_ratio(bottom, top)
-        return times(minus(place, self.inputs[mode]), back)
+    def sources_of(self, sides):
+        """Return the sides whose image some sides are."""
+        told = []
+        for mode, side in zip(self.cloud.modes, sides):
+            top, bottom = self.factors[mode]
+            back = make_ratio(bottom, top)
+            told.append(moved_side(side, back, negative(times(self.inputs[mode], back))))
+        return told
 
 
 def _next_memory_by(can_come):
@@ -170,6 +175,20 @@ def _next_memory_by(can_come):
 def _heard_by(row):
     """Return the label of replies: what can be heard of the word."""
     return lambda reply, memory: row[reply[0]]
+
+
+def _sure_outcomes(world, program, cloud):
+    """Return for each sensor the outcome that is the least one of all its words, None if there is none.
+
+    Nothing is lost by it, whatever the words are, and no lesser one can come.
+    """
+    told = []
+    for at, (sensor, coder) in enumerate(zip(world.sensors, program.coders)):
+        _, _, replies = coder.rules[cloud.state]
+        words = [0] if at in cloud.liars else sorted(set([word for word, _ in replies]))
+        least = [sensor.channel.table[cloud.tick % world.period][word][0] for word in words]
+        told.append(least[0] if least == [least[0]] * len(least) else None)
+    return tuple(told)
 
 
 def _volumes_by_words(world, program, cloud):
@@ -299,18 +318,26 @@ def _point_ahead(world, step, point, memories):
     """
     modes = step.cloud.modes
     pushes = [world.plant.pushes[mode] for mode in modes]
+    reach = [(minus(place, push), plus(place, push)) for place, push in zip(point, pushes)]
+    sources = step.sources_of(reach)
     for piece in step.cloud.pieces:
-        if not is_inside(_widened(step.moved(piece.sides), pushes), point):
+        if not _do_meet(piece.sides, sources):
             continue
         for sides, behind in step.parts_of(piece):
-            image = step.moved(sides)
-            if behind == memories and is_inside(_widened(image, pushes), point):
-                near = point
-                for axis, push in enumerate(pushes):
-                    near = pull_back(image, axis, push, near)
-                return (tuple([step.source_of(mode, place) for mode, place in zip(modes, near)]), piece)
+            if behind == memories and _do_meet(sides, sources):
+                near = [_pulled(side, push, place) for side, push, place in zip(step.moved(sides), pushes, point)]
+                return (tuple([low for low, _ in step.sources_of([(place, place) for place in near])]), piece)
     return None
 
 
-def _widened(sides, pushes):
-    return [(minus(low, push), plus(high, push)) for (low, high), push in zip(sides, pushes)]
+def _pulled(side, push, place):
+    """Return a place inside a side that is less than a push away."""
+    return pull_back((side,), 0, push, (place,))[0]
+
+
+def _do_meet(sides, others):
+    """Tell whether two open boxes have points in common."""
+    for (low, high), (least, most) in zip(sides, others):
+        if compare(low, most) >= 0 or compare(least, high) >= 0:
+            return False
+    return True

@@ -7,11 +7,13 @@ def joined_pieces(pieces):
     """Return disjoint pieces that cover the same, but for points on ends, with touching ones joined."""
     parts = [(piece.sides, piece.memories) for piece in pieces]
     axes = len(parts[0][0])
-    many = len(parts) + 1
-    while 1 < len(parts) < many:
-        many = len(parts)
-        for axis in range(axes):
-            parts = _joined_along(parts, axis)
+    axis, done = 0, 0
+    # Along an axis nothing is left to join until something is joined along another one.
+    while done < axes:
+        joined = _joined_along(parts, axis)
+        done = done + 1 if len(joined) == len(parts) else 1
+        parts = joined
+        axis = (axis + 1) % axes
     return [Piece(sides, memories) for sides, memories in parts]
 
 

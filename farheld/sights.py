@@ -7,7 +7,6 @@ values of the thresholds part the line into gaps; the rule's reply depends on th
 from farheld.boxes import count_below
 from farheld.claims import joined_slabs
 from farheld.ranks import ascending
-from farheld.ratios import compare
 
 
 class Sight:
@@ -30,6 +29,8 @@ class Sight:
             cuts = ascending([value for values, _ in seen for value in values])
             self.cuts.append(cuts)
             self.shares.append(_shares_of(cuts, seen))
+        # Pieces share their ends with others, so each end is searched among the cuts only once.
+        self._counts = [{} for _ in cloud.modes]
 
     def parts_of(self, sides, memory, label_of):
         """Return (label, part of the sides) by what the replies are; parts without a label are left out.
@@ -37,17 +38,24 @@ class Sight:
         The label of a reply is label_of(reply, memory), None for none.
         """
         spans = []
-        for (low, high), cuts in zip(sides, self.cuts):
-            first = count_below(cuts, low, True)
-            last = first
-            if first < len(cuts) and compare(cuts[first], high) < 0:
-                last = count_below(cuts, high, False)
+        for axis, (low, high) in enumerate(sides):
+            _, first = self._count_at(axis, low)
+            last, _ = self._count_at(axis, high)
             spans.append((first, last + 1))
-        begin = self.base + memory * self.recalled
         told = []
-        for label, gaps in self._labelled(spans, 0, begin, memory, label_of):
-            told.append((label, tuple([self._side_of(axis, gap, sides[axis]) for axis, gap in enumerate(gaps)])))
+        for label, gaps in self._labelled(spans, 0, self.base + memory * self.recalled, memory, label_of):
+            told.append((label, self._box_of(gaps, spans, sides)))
         return told
+
+    def _count_at(self, axis, end):
+        """Return how many cuts along an axis are below an end and how many are at most at it."""
+        known = self._counts[axis]
+        if end not in known:
+            cuts = self.cuts[axis]
+            below = count_below(cuts, end, False)
+            is_cut = below < len(cuts) and cuts[below] == end
+            known[end] = (below, below + 1 if is_cut else below)
+        return known[end]
 
     def _labelled(self, spans, axis, place, memory, label_of):
         """Return (label, gaps) for the gaps of this axis and the later ones, joined where labels are equal."""
@@ -64,16 +72,19 @@ class Sight:
             slabs.append(((gap, gap + 1), self._labelled(spans, axis + 1, ahead, memory, label_of)))
         return joined_slabs(slabs)
 
-    def _side_of(self, axis, gap, side):
-        """Return the part of a side that lies in the gaps from a first one to one that is not among them."""
-        cuts = self.cuts[axis]
-        low, high = side
-        first, last = gap
-        if first > 0 and compare(cuts[first - 1], low) > 0:
-            low = cuts[first - 1]
-        if last <= len(cuts) and compare(cuts[last - 1], high) < 0:
-            high = cuts[last - 1]
-        return (low, high)
+    def _box_of(self, gaps, spans, sides):
+        """Return the part of sides that lies in gaps, (first, last and one more) along each axis."""
+        if gaps == tuple(spans):
+            return sides
+        told = []
+        for axis, (first, last) in enumerate(gaps):
+            low, high = sides[axis]
+            if first > spans[axis][0]:
+                low = self.cuts[axis][first - 1]
+            if last < spans[axis][1]:
+                high = self.cuts[axis][last - 1]
+            told.append((low, high))
+        return tuple(told)
 
 
 def _strides_of(sizes):
