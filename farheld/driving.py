@@ -1,6 +1,6 @@
 """Driving out: runs of a barred world that take any program beyond any bound."""
 
-from farheld.clouds import first_cloud, greatest_row, next_cloud, trace_run
+from farheld.clouds import first_cloud, greatest_cloud, trace_run
 from farheld.errors import TooLong
 from farheld.ratios import (
     HALF, ONE, compare, greatest_of, least_of, negative, over, plus, power_of, product_of, size_of, sum_of, times,
@@ -53,8 +53,7 @@ def _drive_clouds(world, program, bar, bound, ticks):
     clouds = [first_cloud(world, program, bar.modes, bar.lot)]
     point = _point_beyond(clouds[-1], bound)
     while point is None and len(clouds) < ticks:
-        row = greatest_row(world, program, clouds[-1])
-        clouds.append(next_cloud(world, program, clouds[-1], row))
+        clouds.append(greatest_cloud(world, program, clouds[-1]))
         point = _point_beyond(clouds[-1], bound)
     return trace_run(world, program, clouds, point)
 
