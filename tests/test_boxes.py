@@ -6,6 +6,7 @@ from fractions import Fraction
 from farheld.boxes import (
     Piece, cut_pieces, moved_pieces, overlap_of, piece_at, pull_back, shadow_of, volume_of, widened_pieces,
 )
+from farheld.claims import first_claims, joined_slabs
 from farheld.joining import joined_pieces
 from farheld.ratios import make_ratio
 from tests.helpers import HeldTest, whole
@@ -286,8 +287,24 @@ class JoinTest(HeldTest):
         joined = joined_pieces(pieces)
         self.assertEqual(len(joined), 3)
         self.assertTrue(all(piece in joined for piece in due))
+        corner = [box((0, 1), (0, 1)), box((0, 1), (1, 2)), box((1, 2), (0, 2))]
+        self.assertEqual(joined_pieces(corner), [box((0, 2), (0, 2))])
         square = [box((x, x + 1), (y, y + 1)) for x in range(5) for y in range(4)]
         self.assertEqual(joined_pieces(square), [box((0, 5), (0, 4))])
+
+    def test_slabs_are_joined_where_nothing_lies_between(self):
+        one, other = ("a", ((0, 2),)), ("b", ((0, 2),))
+        slabs = [((0, 1), [one]), ((1, 2), [one, other]), ((2, 3), [other]), ((5, 6), [other]), ((6, 7), []), ((7, 8), [other])]
+        due = [("a", ((0, 2), (0, 2))), ("b", ((1, 3), (0, 2))), ("b", ((5, 6), (0, 2))), ("b", ((7, 8), (0, 2)))]
+        self.assertEqual(joined_slabs(slabs), due)
+
+    def test_claims_are_not_parted_needlessly(self):
+        boxes = [box(*ends).sides for ends in (((0, 4), (0, 1)), ((2, 3), (0, 9)), ((0, 6), (0, 9)), ((1, 5), (2, 3)))]
+        due = [(0, ((0, 4), (0, 1))), (1, ((2, 3), (1, 9))), (2, ((0, 2), (1, 9))), (2, ((3, 4), (1, 9))), (2, ((4, 6), (0, 9)))]
+        self.assertEqual(sorted(first_claims(boxes)), [(place, sides_of(*ends)) for place, ends in due])
+        boxes = [box(ends).sides for ends in ((3, 5), (0, 9), (1, 2))]
+        self.assertEqual(sorted(first_claims(boxes)), [(0, sides_of((3, 5))), (1, sides_of((0, 3))), (1, sides_of((5, 9)))])
+        self.assertEqual(first_claims([]), [])
 
     def test_drawn_ones(self):
         source = random.Random(942)

@@ -100,7 +100,7 @@ class SmallTest(HeldTest):
     def test_liars_send_word_0_and_rows_that_are_not_heard(self):
         world = World(plain_plant((2, 1)), [Sensor((0,), Channel(3, [[(0, 1), (2,)]])), Sensor((0,), Channel.clean(3))], [[0]])
         rule = (False, [(0, [((0, 1), ())])], [(0, None), (1, None)])
-        program = Program(Controller((3, 3), 1, (), [((), [(0, (), ())])]), [Coder(2, (0,), [rule])] * 2)
+        program = Program(Controller((3, 3), 1, (), [((0, 1), [(0, (), ())] * 9)]), [Coder(2, (0,), [rule])] * 2)
         cloud = first_cloud(world, program, (0,), (0,))
         rows = [(0, 0), (0, 1), (1, 0), (1, 1)]
         self.assertEqual([row for row, _ in kept_volumes(world, program, cloud)], rows)
@@ -258,6 +258,19 @@ class TraceTest(HeldTest):
             run = trace_run(world, program, clouds[:at], whole(0))
             self.assertIsNone(run_fault(world, program, run))
             self.assertEqual(walk(world, program, run)[-1].positions, whole(0))
+
+
+    def test_a_point_just_a_push_away_from_a_part(self):
+        # The part below -1/2 ends a whole push below 1/2, so it cannot be what is led there.
+        world = line_world(factor=(1, 1))
+        rule = (False, [(0, [((-1, 2), ()), ((1, 4), ())])], [(0, None), (1, None), (0, None)])
+        program = Program(Controller((3,), 1, (), [((), [(0, (), ())])]), [Coder(2, (0,), [rule])])
+        clouds = [first_cloud(world, program, (0,), ())]
+        clouds.append(next_cloud(world, program, clouds[0], (0,)))
+        self.assertEqual(len(clouds[1].pieces), 2)
+        run = trace_run(world, program, clouds, [(1, 2)])
+        self.assertIsNone(run_fault(world, program, run))
+        self.assertEqual(walk(world, program, run)[-1].positions, ((1, 2),))
 
 
 class LargeTest(HeldTest):

@@ -189,6 +189,8 @@ class CoderTest(ProgramTest):
         self.assertEqual(len(coder(rules=[(False, looks, [(0, None)] * 10000)]).rules[0][2]), 10000)
         looks = ((0, [(one, ()) for one in many]), looks[1])
         self.refuses("coder", "replies", coder, rules=[(False, looks, [(0, None)] * 10100)])
+        # 137 memories and 73 places would need one more.
+        self.refuses("coder", "replies", coder, memories=137, rules=[(True, ((0, [(one, ()) for one in many[:72]]),), [(0, 0)] * 10001)])
         told = coder(memories=1000, rules=[(True, ((0, [(one, ()) for one in many[:9]]),), [(1, 999)] * 10000)])
         self.assertEqual(told.find_reply(0, 999, (9,)), (1, 999))
         self.refuses("coder", "replies", coder, memories=1000, rules=[(True, ((0, [(one, ()) for one in many[:10]]),), [(1, 9)] * 11000)])

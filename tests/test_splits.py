@@ -171,6 +171,14 @@ class PartsTest(HeldTest):
         self.assertEqual([sensor_room(world, 2, periods) for periods in (0, 1, 8)], [1, 1, 1])
         self.assertEqual([sensor_room(world, 3, periods) for periods in (0, 1)], [11, 12])
 
+    def test_the_first_phase_comes_first(self):
+        # With room for n behind it, two words let tell 2 n, the ring of five the whole part of 5 n / 2.
+        two, ring_of_five = ((0,), (1,), (1,), (1,), (1,)), ring(5)
+        for table, room, telling in (([two, ring_of_five], 4, 2), ([ring_of_five, two], 5, 1)):
+            world = World(Plant([((21, 10), (2, 1))], whole(1), whole(0)), [Sensor((0,), Channel(5, table))])
+            self.assertEqual(sensor_room(world, 0, 1), room)
+            self.assertEqual(find_split(world, ()).telling, telling)
+
     def test_helpers(self):
         seen = ((1,), (0, 1), (0, 1), (1,))
         world = world_of(((2, 1), (2, 1)), (HAZY, clean_use(2), clean_use(2), clean_use(2)), seen=seen)
@@ -399,7 +407,7 @@ class FaultTest(HeldTest):
         self.assertEqual(self.fault(idle=1, telling=2), "growth")
         self.assertEqual(self.fault(counts=((1, 1, 1, 1), (3, 1, 1, 1), rows[2])), "growth")
         world = self.world.with_lots([[1, 2]])
-        self.assertEqual(split_fault(world, Split((1, 2), False, 0, 1, 8, ((3, 1, 1, 1), rows[2], rows[2]))), "list")
+        self.assertEqual(split_fault(world, Split((1, 2), False, 0, 1, 8, ((2, 1, 1, 1), rows[2], rows[2]))), "list")
 
     def test_a_barred_world_may_have_a_right_split(self):
         world = clean_world((3, 2), 2, 2, ((0,), (1,)))
