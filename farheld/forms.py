@@ -1,7 +1,7 @@
 """Forms: a constant and multiples of registers, as a couple (constant, ((register, multiple), ..))."""
 
 from farheld.ratios import ZERO, is_ratio, is_whole, plus, times
-from farheld.sequences import is_couple, is_sequence
+from farheld.sequences import is_couple, is_sequence, settled
 
 
 def form_value(form, registers):
@@ -38,9 +38,9 @@ def kept_form(thing, registers):
         register, multiple = part
         if not is_whole(register, low, registers - 1) or not is_ratio(multiple) or multiple == ZERO:
             return None
-        told.append((register, multiple))
+        told.append(settled(part, (register, multiple)))
         low = register + 1
-    return (thing[0], tuple(told))
+    return settled(thing, (thing[0], tuple(told)))
 
 
 def registers_of(form):

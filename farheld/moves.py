@@ -3,7 +3,7 @@
 from farheld.errors import BadProgram
 from farheld.forms import kept_form
 from farheld.ratios import is_whole
-from farheld.sequences import is_ascending, is_couple, is_sequence
+from farheld.sequences import is_ascending, is_couple, is_sequence, settled
 
 MOST_LOOKS = 3
 MOST_THRESHOLDS = 100
@@ -21,7 +21,7 @@ def kept_move(thing, states, registers, modes):
     steps = _kept_forms(thing[2], modes, registers)
     if steps is None:
         raise BadProgram("controller", "steps")
-    return (thing[0], changes, steps)
+    return settled(thing, (thing[0], changes, steps))
 
 
 def kept_row(thing, states, outcomes, registers, modes):
@@ -63,7 +63,7 @@ def kept_reply(thing, words, memories):
         raise BadProgram("coder", "replies")
     if thing[1] is not None and not is_whole(thing[1], 0, memories - 1):
         raise BadProgram("coder", "replies")
-    return (thing[0], thing[1])
+    return settled(thing, (thing[0], thing[1]))
 
 
 def _kept_look(thing, modes):
@@ -88,6 +88,6 @@ def _kept_forms(thing, below, registers):
         form = kept_form(couple[1], registers)
         if form is None:
             return None
-        told.append((couple[0], form))
+        told.append(settled(couple, (couple[0], form)))
         low = couple[0] + 1
-    return tuple(told)
+    return settled(thing, tuple(told))

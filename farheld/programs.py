@@ -2,7 +2,7 @@
 
 from farheld.errors import BadOrder, BadProgram, NoEntry
 from farheld.forms import form_value, registers_of
-from farheld.moves import kept_move, kept_reply, kept_row, kept_rule
+from farheld.moves import MOST_REGISTERS, kept_move, kept_reply, kept_row, kept_rule
 from farheld.ranks import in_order
 from farheld.ratios import compare, is_ratio, is_whole
 from farheld.sequences import is_ascending, is_order, is_sequence, places_of
@@ -10,7 +10,6 @@ from farheld.sequences import is_ascending, is_order, is_sequence, places_of
 MOST_SENSORS = 4
 MOST_MODES = 3
 MOST_NAMES = 12
-MOST_REGISTERS = 24
 MOST_STATES = 2000
 MOST_MEMORIES = 1000
 
@@ -107,7 +106,7 @@ class Coder:
         return self.find_reply(state, memory, self.find_places(state, registers, positions))
 
     def with_rules(self, rules, first):
-        """Return the coder with other rules, which are taken as they are, and no others than these needs."""
+        """Return the coder with other rules, which are taken as they are: with looks and replies that were checked."""
         made = Coder(self.words, self.modes, STILL_RULES, self.memories)
         made.rules = rules
         made.first = first

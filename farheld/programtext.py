@@ -65,6 +65,7 @@ class Reading:
         self.states = []
         self.coders = []
         # Long texts say the same words over and over, so what a word tells is kept.
+        self._known_couples = {}
         self._known_forms = {}
         self._known_replies = {}
 
@@ -128,9 +129,9 @@ class Reading:
         for word in words:
             if not word.startswith(sign):
                 return told
-            number, _, form = word[1:].partition("=")
-            couple = (_parse_number(number), self._form_of(form))
-            told.append(None if None in couple else couple)
+            if word not in self._known_couples:
+                self._known_couples[word] = _parse_couple(word[1:])
+            told.append(self._known_couples[word])
         return told
 
     def _take_look(self, rest):
@@ -196,10 +197,17 @@ def _parse_number(word):
     return one[0] if one is not None and one[1] == 1 else None
 
 
+def _parse_couple(word):
+    """Return the couple (number, form) of a word, None for any other word."""
+    number, _, form = word.partition("=")
+    couple = (_parse_number(number), _parse_form(form))
+    return None if None in couple else couple
+
+
 def _parse_form(word):
     """Return the form of a word, None for any other word."""
     constant, *parts = word.split(",")
-    told = [_parse_part(part) for part in parts]
+    told = tuple([_parse_part(part) for part in parts])
     one = parse_ratio(constant)
     return None if one is None or None in told else (one, told)
 

@@ -15,6 +15,14 @@ def is_couple(thing):
     return isinstance(thing, (list, tuple)) and len(thing) == 2
 
 
+def settled(thing, kept):
+    """Return a thing that equals the tuple that is to be kept of it, else this tuple.
+
+    So what was passed in as tuples is not held twice; programs may have millions of them.
+    """
+    return thing if thing == kept else kept
+
+
 def is_ascending(thing, least, most, below):
     """Tell whether a thing is an ascending sequence of unlike whole numbers from 0 to below - 1."""
     if not is_sequence(thing, least, most):
