@@ -1,9 +1,10 @@
 """Clouds: states that the controller cannot tell apart, followed tick by tick."""
 
-from farheld.boxes import Piece, piece_at, pull_back, widened_pieces
+from farheld.boxes import Piece, piece_at, widened_pieces
 from farheld.errors import BadPoint, Unheard
 from farheld.joining import joined_pieces
-from farheld.ratios import ZERO, compare, is_ratio, is_whole, make_ratio, minus, plus
+from farheld.ranks import simplest_between
+from farheld.ratios import ZERO, compare, greatest_of, is_ratio, is_whole, least_of, make_ratio, minus, plus
 from farheld.running import Pose, Run, pose_behind, replies_at
 from farheld.sequences import is_sequence
 from farheld.sights import Sight
@@ -156,25 +157,25 @@ def _point_ahead(world, step, point, memories):
     """Return a point of a step's cloud that can be led to a point with these memories, and its piece.
 
     Where parts were joined, a point may lie on an end of all of them. So each followed mode may be
-    pushed: a point within the pushes of a part is led there from inside the part.
+    pushed: any place within the pushes of a part is led there from inside the part.
     """
-    modes = step.cloud.modes
-    pushes = [world.plant.pushes[mode] for mode in modes]
-    reach = [(minus(place, push), plus(place, push)) for place, push in zip(point, pushes)]
-    sources = step.sources_of(reach)
+    pushes = [world.plant.pushes[mode] for mode in step.cloud.modes]
+    sources = step.sources_of([(minus(place, push), plus(place, push)) for place, push in zip(point, pushes)])
     for piece in step.cloud.pieces:
         if not _do_meet(piece.sides, sources):
             continue
         for sides, behind in step.parts_of(piece):
             if behind == memories and _do_meet(sides, sources):
-                near = [_pulled(side, push, place) for side, push, place in zip(step.moved(sides), pushes, point)]
-                return (tuple([low for low, _ in step.sources_of([(place, place) for place in near])]), piece)
+                return (_simplest_point(sides, sources), piece)
     return None
 
 
-def _pulled(side, push, place):
-    """Return a place inside a side that is less than a push away."""
-    return pull_back((side,), 0, push, (place,))[0]
+def _simplest_point(sides, others):
+    """Return a point inside two boxes that meet, with as few figures as there can be."""
+    point = []
+    for (low, high), (least, most) in zip(sides, others):
+        point.append(simplest_between(greatest_of((low, least)), least_of((high, most))))
+    return tuple(point)
 
 
 def _do_meet(sides, others):

@@ -2,8 +2,9 @@
 
 from farheld.clouds import first_cloud, greatest_cloud, trace_run
 from farheld.errors import TooLong
+from farheld.ranks import simplest_between
 from farheld.ratios import (
-    HALF, ONE, compare, greatest_of, least_of, negative, over, plus, power_of, product_of, size_of, sum_of, times,
+    ONE, compare, greatest_of, least_of, negative, over, plus, power_of, product_of, size_of, sum_of, times,
 )
 from farheld.running import beyond
 from farheld.twins import MOST_TICKS, TWO, check_drive, twin_runs, twin_ticks
@@ -62,16 +63,12 @@ def _point_beyond(cloud, bound):
     """Return a point of a cloud at which a mode has a size above the bound, None if there is none."""
     least = negative(bound)
     for piece in cloud.pieces:
-        point = [_middle(low, high) for low, high in piece.sides]
+        point = [simplest_between(low, high) for low, high in piece.sides]
         for axis, (low, high) in enumerate(piece.sides):
             if compare(high, bound) > 0:
-                point[axis] = _middle(greatest_of((low, bound)), high)
+                point[axis] = simplest_between(greatest_of((low, bound)), high)
                 return tuple(point)
             if compare(low, least) < 0:
-                point[axis] = _middle(low, least_of((high, least)))
+                point[axis] = simplest_between(low, least_of((high, least)))
                 return tuple(point)
     return None
-
-
-def _middle(low, high):
-    return times(HALF, plus(low, high))

@@ -1,4 +1,6 @@
-"""Ratios in the order of their values."""
+"""Ratios in the order of their values, and the simplest ones between others."""
+
+from farheld.ratios import negative
 
 
 def in_order(ratios):
@@ -18,3 +20,31 @@ def ascending(ratios):
 def ranks_of(ratios):
     """Return for each ratio how many unlike ones of the sequence are less, by ratio."""
     return {one: rank for rank, one in enumerate(ascending(ratios))}
+
+
+def simplest_between(low, high):
+    """Return a ratio of the least bottom above one ratio and below another, greater one."""
+    if low[0] < 0 < high[0]:
+        return (0, 1)
+    if low[0] < 0:
+        return negative(simplest_between(negative(high), negative(low)))
+    wholes = []
+    while True:
+        whole = low[0] // low[1]
+        if (whole + 1) * high[1] < high[0]:
+            return _with_wholes(wholes, (whole + 1, 1))
+        # All between them is this whole part and 1 divided by what lies between two other ratios.
+        wholes.append(whole)
+        rest = low[0] - whole * low[1]
+        least = (high[1], high[0] - whole * high[1])
+        if rest == 0:
+            return _with_wholes(wholes, (least[0] // least[1] + 1, 1))
+        low, high = least, (low[1], rest)
+
+
+def _with_wholes(wholes, last):
+    """Return the last one of the whole parts plus 1 divided by a ratio, and so on back to the first one."""
+    top, bottom = last
+    for whole in reversed(wholes):
+        top, bottom = whole * top + bottom, top
+    return (top, bottom)
