@@ -203,8 +203,9 @@ def _split_of(world, guess, blocks, idle):
 
 def _list_patterns(measures):
     """Return (listing periods, (mode, sensor) that may have a count above 1), only what is not within another."""
-    modes, sensors = range(measures.world.plant.modes), range(len(measures.sizes))
-    cells = [(mode, sensor) for mode in modes for sensor in sensors if measures.tells(mode, sensor)]
+    cells = []
+    for mode in range(measures.world.plant.modes):
+        cells.extend([(mode, sensor) for sensor in range(len(measures.sizes)) if measures.tells(mode, sensor)])
     listed = [cell for cell in cells if measures.sizes[cell[1]] > 1]
     plain = [cell for cell in cells if measures.sizes[cell[1]] == 1]
     widest = []
