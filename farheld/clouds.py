@@ -2,7 +2,7 @@
 
 from farheld.boxes import Piece, piece_at, widened_pieces
 from farheld.errors import BadPoint, Unheard
-from farheld.joining import joined_pieces
+from farheld.joining import joined_if_many
 from farheld.ranks import simplest_between
 from farheld.ratios import ZERO, compare, greatest_of, is_ratio, is_whole, least_of, make_ratio, minus, plus
 from farheld.running import Pose, Run, pose_behind, replies_at
@@ -104,8 +104,8 @@ def _cloud_behind(world, program, cloud, row, sights):
     parts = step.images()
     if not parts:
         return None
-    widened = widened_pieces(joined_pieces(parts), 0, world.plant.pushes[cloud.modes[0]])
-    pieces = tuple(joined_pieces([piece for _, piece in widened]))
+    widened = widened_pieces(joined_if_many(parts), 0, world.plant.pushes[cloud.modes[0]])
+    pieces = tuple(joined_if_many([piece for _, piece in widened]))
     state, registers, positions = step.move[0], step.next_registers(), step.other_positions()
     return Cloud(cloud.tick + 1, state, registers, cloud.modes, cloud.liars, positions, row, pieces)
 

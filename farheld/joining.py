@@ -2,6 +2,14 @@
 
 from farheld.boxes import Piece
 
+# So many pieces are quickly followed as they are; joining is for those that would grow ever more.
+FEW = 50
+
+
+def joined_if_many(pieces):
+    """Return few pieces as they are, more of them joined."""
+    return joined_pieces(pieces) if len(pieces) > FEW else list(pieces)
+
 
 def joined_pieces(pieces):
     """Return disjoint pieces that cover the same, but for points on ends, with touching ones joined."""

@@ -1,7 +1,9 @@
 import random
 import time
 from fractions import Fraction
+from unittest import mock
 
+from farheld import joining
 from farheld.boxes import Piece, overlap_of, piece_at, volume_of
 from farheld.channels import Channel
 from farheld.clouds import first_cloud, greatest_row, kept_volumes, next_cloud, trace_run
@@ -124,17 +126,16 @@ class SmallTest(HeldTest):
         self.assertEqual([piece.sides for piece in behind.pieces], [(((-3, 1), (3, 1)), ((-1, 1), (5, 1)))])
         self.raises(Unheard, {"outcomes": (0,)}, next_cloud, world, program, cloud, (0,))
 
-    def test_cuts_that_change_nothing_make_no_pieces(self):
-        # The memory tells the last side for one tick; where it no longer matters the parts are one again.
+    def test_cuts_that_no_longer_matter_do_not_make_ever_more_pieces(self):
+        # The memory tells the last side for one tick; of many parts those are joined that are one again.
         world = line_world(((0, 1), (0, 1)))
-        forget = (True, [(0, [((0, 1), ())])], [(0, 0), (0, 1), (0, 0), (0, 1)])
-        program = Program(Controller((3,), 1, (), [((), [(0, (), ())])]), [Coder(2, (0,), [forget], 2)])
+        sides = (True, [(0, [((place, 1), ()) for place in range(-5, 6)])], [(0, place % 2) for place in range(12)] * 2)
+        program = Program(Controller((3,), 1, (), [((), [(0, (), ())])]), [Coder(2, (0,), [sides], 2)])
         cloud = first_cloud(world, program, (0,), ())
         for _ in range(60):
             cloud = next_cloud(world, program, cloud, greatest_row(world, program, cloud))
-            self.assertLessEqual(len(cloud.pieces), 2)
+            self.assertLessEqual(len(cloud.pieces), 62)
         self.assertEqual(volume_of(cloud.pieces), (2 * (2 ** 61 - 1), 1))
-
 
 class DrawnTest(HeldTest):
     """Drawn clouds are compared with those by the plain words, and points of them are traced."""
@@ -201,6 +202,10 @@ class DrawnTest(HeldTest):
             program = some_program(source, world)
             modes = tuple(sorted(source.sample(range(world.plant.modes), source.randint(1, world.plant.modes))))
             liars = source.choice(world.lots)
+            # In some of them all that can be joined is joined, as if the pieces were many.
+            patch = mock.patch.object(joining, "FEW", source.choice((0, 50)))
+            patch.start()
+            self.addCleanup(patch.stop)
             cloud = first_cloud(world, program, modes, liars)
             outcomes, plain = plain_first(world, program, modes, liars)
             self.assertEqual(cloud.outcomes, outcomes)
@@ -225,6 +230,7 @@ class DrawnTest(HeldTest):
                 for point in self.points_of(source, piece, plain):
                     self.traced(world, program, source.choice((clouds, tuple(clouds))), piece, point)
                     seen["traced"] += 1
+            patch.stop()
             seen["modes"].add(modes)
             seen["liars"] += len(liars) > 0
             seen["pieces"] = max(seen["pieces"], len(cloud.pieces))
@@ -244,21 +250,23 @@ class TraceTest(HeldTest):
         self.assertEqual(walk(world, program, run)[-1].positions, ((1 - 3 * big, big),))
 
     def test_a_point_on_the_end_of_joined_parts(self):
-        # The two halves are told apart for one tick, then joined; their common end lies in the piece.
+        # 61 parts are told apart for one tick, then they are joined; their ends lie in the piece.
         world = line_world(((0, 1), (0, 1)))
-        first = (False, [(0, [((0, 1), ())])], [(0, 0), (0, 1)])
+        thresholds = [make_form(make_ratio(place, 31)) for place in range(-30, 31)]
+        first = (False, [(0, thresholds)], [(0, place % 2) for place in range(62)])
         rules = [first, first, (True, (), [(0, 0), (0, 0)])]
         rows = [((), [(1, (), ())]), ((), [(2, (), ())]), ((), [(2, (), ())])]
         program = Program(Controller((3,), 1, (), rows), [Coder(1, (0,), rules, 2)])
         clouds = [first_cloud(world, program, (0,), ())]
-        for many in (2, 1, 1):
+        for many in (62, 1, 1):
             clouds.append(next_cloud(world, program, clouds[-1], (0,)))
             self.assertEqual(len(clouds[-1].pieces), many)
-        for at in (3, 4):
-            run = trace_run(world, program, clouds[:at], whole(0))
-            self.assertIsNone(run_fault(world, program, run))
-            self.assertEqual(walk(world, program, run)[-1].positions, whole(0))
-
+        for place in (0, 1, -7, 30):
+            for at, scale in ((3, 4), (4, 8)):
+                point = [make_ratio(scale * place, 31)]
+                run = trace_run(world, program, clouds[:at], point)
+                self.assertIsNone(run_fault(world, program, run))
+                self.assertEqual(walk(world, program, run)[-1].positions, tuple(point))
 
     def test_a_point_just_a_push_away_from_a_part(self):
         # The part below -1/2 ends a whole push below 1/2, so it cannot be what is led there.
