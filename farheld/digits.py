@@ -16,23 +16,23 @@ def count_told(counts, sensor):
 
 def cell_digits(counts, mode, cell):
     """Return the digit of each sensor in the number of a cell."""
-    return _digits_of(counts[mode], cell)
+    return digits_of(counts[mode], cell)
 
 
 def join_cell(counts, mode, digits):
     """Return the cell that has these digits, sensor by sensor."""
-    return _joined_by(counts[mode], digits)
+    return joined_by(counts[mode], digits)
 
 
 def sensor_message(counts, sensor, cells):
     """Return the message that a sensor has for these cells, mode by mode."""
     digits = [cell_digits(counts, mode, cell)[sensor] for mode, cell in enumerate(cells)]
-    return _joined_by(_bases_of(counts, sensor), digits)
+    return joined_by(_bases_of(counts, sensor), digits)
 
 
 def message_digits(counts, sensor, message):
     """Return the digit of each mode in a sensor's message."""
-    return _digits_of(_bases_of(counts, sensor), message)
+    return digits_of(_bases_of(counts, sensor), message)
 
 
 def join_cells(counts, messages):
@@ -53,7 +53,7 @@ def multiplied(numbers):
     return product
 
 
-def _digits_of(bases, number):
+def digits_of(bases, number):
     """Return the digits of a number by these bases; the first one leads."""
     digits = []
     rest = number
@@ -63,7 +63,8 @@ def _digits_of(bases, number):
     return tuple(digits[::-1])
 
 
-def _joined_by(bases, digits):
+def joined_by(bases, digits):
+    """Return the number that has these digits by these bases."""
     number = 0
     for base, digit in zip(bases, digits):
         number = number * base + digit

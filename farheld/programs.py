@@ -27,6 +27,7 @@ class Controller:
         self.registers = tuple(registers)
         self.rows = tuple([kept_row(row, len(rows), self.outcomes, len(registers), modes) for row in rows])
         self.first = first
+        self.loud_state = _find_loud_state(self.rows)
 
     def __len__(self):
         return len(self.rows)
@@ -51,6 +52,7 @@ class Controller:
         made = Controller(self.outcomes, self.modes, self.registers, STILL_ROWS)
         made.rows = rows
         made.first = first
+        made.loud_state = _find_loud_state(rows)
         return made
 
 
@@ -192,6 +194,15 @@ def _check_controller(outcomes, modes, registers, rows, first):
         raise BadProgram("controller", "rows")
     if not is_whole(first, 0, len(rows) - 1):
         raise BadProgram("controller", "first")
+
+
+def _find_loud_state(rows):
+    """Return the least state whose moves have unlike steps, None if there is none."""
+    for state, (_, moves) in enumerate(rows):
+        _, _, steps = moves[0]
+        if not all([others == steps for _, _, others in moves]):
+            return state
+    return None
 
 
 def _check_coder(words, modes, rules, memories, first):

@@ -162,6 +162,25 @@ def registers_behind(move, registers):
     return tuple(told)
 
 
+def tick_fault(world, at, honest, liars, tick):
+    """Return the first fault of a tick with that number, None if it has none.
+
+    Without liars (None) every sensor may send another word than its honest one.
+    """
+    if not is_sequence(tick, 3, 3):
+        return "tick"
+    words, outcomes, pushes = tick
+    if not _are_words(words, [sensor.channel.words for sensor in world.sensors]):
+        return "words"
+    if liars is not None:
+        for sensor, word in enumerate(honest):
+            if sensor not in liars and words[sensor] != word:
+                return "honest"
+    if not _are_heard(world, at, words, outcomes):
+        return "outcomes"
+    return None if _are_pushes(world, pushes) else "pushes"
+
+
 def are_liars(world, liars):
     """Tell whether a thing is an ascending sequence of sensors that stand in one lot."""
     many = len(world.sensors)
@@ -207,21 +226,10 @@ def _played(world, program, pose, liars, tick):
 
     Without liars (None) every sensor may lie.
     """
-    if not is_sequence(tick, 3, 3):
-        return ("tick", None)
-    words, outcomes, pushes = tick
-    sensors = world.sensors
-    if not _are_words(words, [sensor.channel.words for sensor in sensors]):
-        return ("words", None)
     replies = replies_at(program, pose)
-    if liars is not None:
-        for sensor, (word, _) in enumerate(replies):
-            if sensor not in liars and words[sensor] != word:
-                return ("honest", None)
-    if not _are_heard(world, pose.tick, words, outcomes):
-        return ("outcomes", None)
-    if not _are_pushes(world, pushes):
-        return ("pushes", None)
+    what = tick_fault(world, pose.tick, [word for word, _ in replies], liars, tick)
+    if what is not None:
+        return (what, None)
     return (None, pose_behind(world, program, pose, replies, tick))
 
 

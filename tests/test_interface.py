@@ -109,6 +109,32 @@ MODULES = {
     ],
     "twins": ["twin_gap(world, bar, ticks)", "twin_ticks(world, bar, bound)", "twin_runs(world, program, bar, ticks)"],
     "driving": ["ticks_needed(world, bar, bound)", "drive_out(world, program, bar, bound)"],
+    "blocks": [
+        "block_ticks(world, split)", "count_paths(world, split)", "list_checkers(world, split)",
+        "find_cell(counts, mode, half, position)", "cell_middle(counts, mode, half, cell)",
+        "told_middle(world, split, mode, half, cell, tick)", "told_half(world, split, mode, half, tick)",
+        "find_extra(world, split, mode)", "next_half(world, split, mode, half, struck)", "rest_half(world, split, mode)",
+        "guess_halves(world, splits)", "told_bounds(world, splits)",
+    ],
+    "compiling": [
+        "compile_splits(world, splits)", "compile_world(world, blocks=8, idle=0)",
+        "Compiled(world, splits, program, places)", "Compiled.__eq__(self, other)", "Compiled.find_place(self, state)",
+        "Compiled.block_state(self, place)", "Compiled.halves_at(self, state, registers, ticks=0)",
+    ],
+    "deeds": [
+        "quiet_fault(program)", "find_offset(world, mode, number)", "read_number(world, mode, moved)",
+        "first_deeds(world, program, start)", "deed_words(world, program, pose)",
+        "play_deed(world, program, pose, tick)", "walk_deeds(world, program, run)", "plain_pose(pose)",
+        "deed_bounds(world, bounds)", "DeedPose(tick, positions, offsets, state, registers, copies)",
+        "DeedPose.__eq__(self, other)",
+    ],
+    "leastbound": [
+        "check_link(world)", "link_numbers(world)", "told_lengths(world, ticks)", "late_lengths(world, late, ticks)",
+        "find_least(world, late=0)", "greatest_late(world, bound)", "fewest_words(plant, bound)",
+        "Least(bound, lengths, limits, reached)", "Least.__eq__(self, other)",
+    ],
+    "leastprogram": ["least_program(world, late=0)"],
+    "drivebelow": ["ticks_below(world, bound, late=0)", "drive_below(world, program, bound, late=0)"],
 }
 
 
