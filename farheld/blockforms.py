@@ -9,11 +9,14 @@ from farheld.forms import make_form
 from farheld.ratios import ZERO, make_ratio, minus, negative, plus, times
 
 
-def cut_forms(plan, mode, step):
-    """Return the thresholds ahead of every step-th cell of a mode."""
+def cut_forms(plan, mode):
+    """Return the thresholds between the cells of a mode.
+
+    All coders cut a mode in the same way, so a keeping can tell its cells by forms.
+    """
     cells = count_cells(plan.split.counts, mode)
     told = []
-    for cell in range(step, cells, step):
+    for cell in range(1, cells):
         told.append(make_form(ZERO, (_register_of(plan, mode), make_ratio(2 * cell - cells, cells))))
     return tuple(told)
 

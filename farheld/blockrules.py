@@ -40,32 +40,27 @@ class Witness:
 
     def _first_rule(self, key, last):
         """Return the rule of tick 0: looks for the cells, keeps them as a memory, and says the first word."""
-        steps = self._steps()
+        modes = self._modes_needed()
         counts = self.plan.split.counts
         rows = [[0] * len(counts)]
-        for mode, step in steps:
-            places = range(0, count_cells(counts, mode), step)
-            if len(places) > MOST_THRESHOLDS + 1 or len(rows) * len(places) > MOST_REPLIES:
+        for mode in modes:
+            cells = count_cells(counts, mode)
+            if cells > MOST_THRESHOLDS + 1 or len(rows) * cells > MOST_REPLIES:
                 raise TooLarge()
-            rows = [row[:mode] + [cell] + row[mode + 1:] for row in rows for cell in places]
+            rows = [row[:mode] + [cell] + row[mode + 1:] for row in rows for cell in range(cells)]
         said = self._words_by_message(0, key) if self.plan.is_telling(self.sensor, 0) else {}
         replies = []
-        for cells in rows:
-            memory = self._memory_of(cells)
+        for row in rows:
+            memory = self._memory_of(row)
             replies.append((said.get(memory // self._rows, 0), memory if last is None else last))
-        looks = [(mode, cut_forms(self.plan, mode, step)) for mode, step in steps]
+        looks = [(mode, cut_forms(self.plan, mode)) for mode in modes]
         return (False, tuple(looks), tuple(replies))
 
-    def _steps(self):
-        """Return (mode, step) for each mode that is looked at: behind each step of cells a needed digit changes."""
-        told = []
-        for mode, row in enumerate(self.plan.split.counts):
-            needed = [listed for other, listed in self.tasks if other == mode]
-            if row[self.sensor] > 1:
-                needed.append(self.sensor)
-            if needed:
-                told.append((mode, multiplied(row[max(needed) + 1:])))
-        return told
+    def _modes_needed(self):
+        """Return the modes whose cells are looked for: the sensor tells a digit of them, or helps with one."""
+        counts = self.plan.split.counts
+        helped = [mode for mode, _ in self.tasks]
+        return [mode for mode in range(len(counts)) if counts[mode][self.sensor] > 1 or mode in helped]
 
     def _memory_of(self, cells):
         counts = self.plan.split.counts
