@@ -41,12 +41,7 @@ class Run:
 
 def first_pose(world, program, start):
     """Return the pose of tick 0."""
-    starts = world.plant.starts
-    if not is_sequence(start, len(starts), len(starts)) or not all([is_ratio(one) for one in start]):
-        raise BadStart(0)
-    for mode, one in enumerate(start):
-        if compare(size_of(one), starts[mode]) > 0:
-            raise BadStart(mode)
+    check_start(world, start)
     controller = program.controller
     memories = tuple([coder.first for coder in program.coders])
     return Pose(0, tuple(start), controller.first, controller.registers, memories)
@@ -124,6 +119,16 @@ def play_run(world, program, start, liars, picks):
     return Run(tuple(start), tuple(liars), tuple(ticks))
 
 
+def check_start(world, start):
+    """Raise BadStart unless this is a sequence of a ratio for each mode, none greater than the mode's start."""
+    starts = world.plant.starts
+    if not is_sequence(start, len(starts), len(starts)) or not all([is_ratio(one) for one in start]):
+        raise BadStart(0)
+    for mode, one in enumerate(start):
+        if compare(size_of(one), starts[mode]) > 0:
+            raise BadStart(mode)
+
+
 def replies_at(program, pose):
     """Return each coder's word and next memory at a pose."""
     told = []
@@ -170,7 +175,7 @@ def tick_fault(world, at, honest, liars, tick):
     if not is_sequence(tick, 3, 3):
         return "tick"
     words, outcomes, pushes = tick
-    if not _are_words(words, [sensor.channel.words for sensor in world.sensors]):
+    if not are_words(words, [sensor.channel.words for sensor in world.sensors]):
         return "words"
     if liars is not None:
         for sensor, word in enumerate(honest):
@@ -233,7 +238,7 @@ def _played(world, program, pose, liars, tick):
     return (None, pose_behind(world, program, pose, replies, tick))
 
 
-def _are_words(words, numbers):
+def are_words(words, numbers):
     """Tell whether a thing is a sequence of a word for each of these numbers of words."""
     if not is_sequence(words, len(numbers), len(numbers)):
         return False
@@ -259,7 +264,7 @@ def _are_pushes(world, pushes):
 def _picked(world, pose, liars, words, pick):
     """Return the tick that a pick makes of the coders' words, or raise BadRun."""
     lies, choices, pushes = pick
-    if not _are_words(lies, [world.sensors[liar].channel.words for liar in liars]):
+    if not are_words(lies, [world.sensors[liar].channel.words for liar in liars]):
         raise BadRun(pose.tick, "words")
     if not _are_pushes(world, pushes):
         raise BadRun(pose.tick, "pushes")

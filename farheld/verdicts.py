@@ -82,7 +82,7 @@ def list_watchers(world, first, second, mode):
 def walk_rate_bars(world):
     """Yield a rate bar for each lot and set for which RATE fails."""
     shares = [[find_share(use) for use in sensor.channel.table] for sensor in world.sensors]
-    for modes in _list_sets(world.plant.modes):
+    for modes in list_sets(world.plant.modes):
         growth = period_growth(world, modes)
         for lot in world.lots:
             tellers = list_tellers(world, lot, modes)
@@ -149,7 +149,7 @@ def clearance_fault(world, clearance):
     kept = []
     for table, row in zip(tables, clearance.mixtures):
         kept.append(product_of([_greatest_met(use, mixture) for use, mixture in zip(table, row)]))
-    for modes in _list_sets(world.plant.modes):
+    for modes in list_sets(world.plant.modes):
         growth = period_growth(world, modes)
         for lot in world.lots:
             shares = [kept[sensor] for sensor in list_tellers(world, lot, modes)]
@@ -207,7 +207,7 @@ def _solid_phases(world, sensor):
     return [phase for phase in range(channel.period) if channel.kind_at(phase) == "solid"]
 
 
-def _list_sets(modes):
+def list_sets(modes):
     """Return all sets of modes, those with fewer modes first, then the lesser tuple."""
     sets = []
     for mask in range(1, 1 << modes):

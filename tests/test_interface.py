@@ -134,6 +134,28 @@ MODULES = {
         "Least(bound, lengths, limits, reached)", "Least.__eq__(self, other)",
     ],
     "leastprogram": ["least_program(world, late=0)"],
+    "keeping": [
+        "keeping_fault(world, program, keeping)", "keepings_fault(world, program, keepings)", "keeping_bound(keeping)",
+        "leaving_tick(world, program, keeping, run)", "Keeping(lot, lines)", "Keeping.__eq__(self, other)",
+        "KeepFault(what, key)", "KeepFault.__eq__(self, other)",
+    ],
+    "fitkeeping": ["fit_keeping(world, program, lot, anchors=())"],
+    "renting": [
+        "check_group(world, group)", "silenced_world(world, group)", "hired_world(world, group)",
+        "does_hold(world, group)", "check_prices(world, prices)", "group_price(world, prices, group)",
+        "cheapest_group(world, prices)", "hiring_fault(world, prices, hiring)", "least_groups(world)",
+        "needed_sensors(world)", "Hiring(group, price, clearance, barred)", "Hiring.__eq__(self, other)",
+    ],
+    "failing": [
+        "least_silences(world)", "liars_world(world, many)", "most_liars(world)", "trade_of(world)",
+        "greatest_families(world)", "Borne(many, bar)", "Borne.__eq__(self, other)",
+    ],
+    "stories": ["Story(world, start, liars, deeds)", "Story.__eq__(self, other)"],
+    "desk": [
+        "retell_story(story)", "Leg(world, blocks, run)", "Leg.__eq__(self, other)", "Desk(world, start, liars=())",
+        "Desk.__eq__(self, other)", "Desk.take_deed(self, deed)", "Desk.tell_story(self)", "Desk.tried(self, call)",
+    ],
+    "storytext": ["story_text(story)", "parse_story(text)"],
     "drivebelow": ["ticks_below(world, bound, late=0)", "drive_below(world, program, bound, late=0)"],
 }
 

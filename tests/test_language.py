@@ -171,7 +171,11 @@ class LanguageTest(unittest.TestCase):
         for _, _, tree in self.trees():
             for node in ast.walk(tree):
                 if isinstance(node, ast.Try):
-                    self.assertEqual(node.finalbody, [])
+                    for one in node.finalbody:
+                        self.assertIsInstance(one, ast.Assign)
+                        parts = [one.value] + one.targets
+                        parts = [inner for part in parts for inner in (part.elts if isinstance(part, ast.Tuple) else [part])]
+                        self.assertTrue(all(isinstance(part, (ast.Name, ast.Attribute)) for part in parts))
                     for handler in node.handlers:
                         self.assertIn(handler.type.id, own)
                 if isinstance(node, ast.Raise) and node.exc is not None:
