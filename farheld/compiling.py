@@ -62,7 +62,7 @@ def compile_splits(world, splits):
     """Return the compiled program of right splits, one for each lot."""
     check_splits(world, splits)
     plans = [BlockPlan(world, split) for split in splits]
-    states = Layout(plans).states()
+    states = Layout(plans).all_states()
     moves = Moves(plans)
     rows = [(state.heeds, moves.moves_of(state)) for state in states]
     registers = [world.plant.starts[mode] for mode in world.plant.growing]
@@ -95,7 +95,7 @@ class Layout:
         for place in range(len(plans)):
             self._add_block(place)
 
-    def states(self):
+    def all_states(self):
         """Return all states in the order of their numbers."""
         return self._begun + self._later
 

@@ -22,9 +22,11 @@ def scaled_form(form, factor):
 
 def sum_of_forms(one, other):
     """Return the sum of two forms."""
+    constant = plus(one[0], other[0])
     if not other[1]:
-        return (plus(one[0], other[0]), one[1])
-    return make_form(plus(one[0], other[0]), *(one[1] + other[1]))
+        return (constant, one[1])
+    parts = one[1] + other[1]
+    return make_form(constant, *parts)
 
 
 def form_behind(form, nexts):

@@ -73,9 +73,9 @@ class Cells:
         phase, cells = memory
         outcome = outcomes_at(self._world, phase)[cell]
         word = self._world.sensors[0].channel.table[phase].index((outcome,))
-        return (word, self._places[((phase + 1) % self._world.period, self._later(cells, cell))])
+        return (word, self._places[((phase + 1) % self._world.period, self._cells_behind(cells, cell))])
 
-    def _later(self, cells, cell):
+    def _cells_behind(self, cells, cell):
         told = cells + (cell,)
         return told[1:] if len(told) > self._late else told
 

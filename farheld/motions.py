@@ -50,7 +50,7 @@ class Frame:
         self._motions = {}
         self._heard = {}
 
-    def number_of(self, form):
+    def form_number(self, form):
         """Return the number of a form, which is its place in `forms`."""
         if form not in self._numbers:
             self._numbers[form] = len(self.forms)
@@ -81,6 +81,6 @@ class Frame:
         steps = [constant_form(ZERO)] * self.world.plant.modes
         for mode, form in move[2]:
             steps[mode] = form
-        changes = tuple([(register, self.number_of(form)) for register, form in move[1]])
-        like = (changes, tuple([self.number_of((ZERO, parts)) for _, parts in steps]))
+        changes = tuple([(register, self.form_number(form)) for register, form in move[1]])
+        like = (changes, tuple([self.form_number((ZERO, parts)) for _, parts in steps]))
         return Motion(place, move, self._kinds.setdefault(like, len(self._kinds)), steps)

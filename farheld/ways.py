@@ -37,7 +37,8 @@ class Reach:
     """A line with its ways."""
 
     def __init__(self, frame, line):
-        (self._phase, self._state, self._memories), self._spans, self._ends = line
+        key, self._spans, self._ends = line
+        self._phase, self._state, self._memories = key
         self._frame = frame
         plant = frame.world.plant
         self._factors = [row[self._phase] for row in plant.factors]
@@ -49,7 +50,7 @@ class Reach:
     def list_ways(self):
         """Return the ways in ascending order; of those that do not differ only the first."""
         frame = self._frame
-        bands = [((frame.number_of(low),), ((frame.number_of(high), False),)) for low, high in self._ends]
+        bands = [((frame.form_number(low),), ((frame.form_number(high), False),)) for low, high in self._ends]
         parts = [(tuple(bands), (), ())]
         for sensor in range(len(frame.world.sensors)):
             parts = self._parts_behind(sensor, parts)
@@ -124,7 +125,7 @@ class Reach:
         if not view.ascending:
             return [(place, band) for place in range(many + 1)]
         lows, highs = band
-        numbers = [self._frame.number_of(form) for form in thresholds]
+        numbers = [self._frame.form_number(form) for form in thresholds]
         told = []
         for place in range(self._count_below(thresholds, lows), self._count_not_above(thresholds, highs) + 1):
             behind_lows = lows if place == 0 else lows + (numbers[place - 1],)

@@ -209,6 +209,15 @@ class PartsTest(HeldTest):
         # The check is at tick 3 of 6, behind which 5/4, 3/2 and 5/4 meet.
         self.assertEqual(find_extra(alone, Split((1,), True, 1, 1, 0, ((2, 1), (1, 1))), 0), (75, 64))
 
+    def test_a_checker_of_another_mode_is_no_matter(self):
+        # Both modes grow; the late checker sees the second one alone.
+        plant = Plant([[(2, 1), (3, 1)], [(2, 1), (1, 1)]], whole(1, 1), whole(0, 0))
+        sensors = [Sensor((0,), dead_first()), Sensor((1,), Channel.clean(3, 2)), Sensor((0, 1), Channel.clean(3, 2))]
+        world = World(plant, sensors, [(2,)])
+        split = Split((2,), True, 0, 2, 0, ((1, 1, 1), (1, 1, 1)))
+        self.assertEqual(list_checkers(world, split), ((0, 5), (1, 4)))
+        self.assertEqual([find_extra(world, split, mode) for mode in (0, 1)], list(whole(3, 2)))
+
     def test_halves_of_a_simple_block(self):
         world = clean_world((3, 2), 2, 1)
         split = plan_splits(world)[0]

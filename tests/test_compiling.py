@@ -17,7 +17,7 @@ from farheld.running import run_fault, walk
 from farheld.splits import Split, list_tasks, plan_splits
 from farheld.verdicts import find_bar
 from farheld.worlds import Sensor, World
-from tests.compiled import dead_first, some_growing_world, some_kept_world, wild_run
+from tests.compiled import Listener, dead_first, some_growing_world, some_kept_world, wild_run
 from tests.helpers import HeldTest, clean_use, clean_world, each_misses_one, plain_plant, ring, whole
 from tests.test_blocks import checked_world
 
@@ -121,9 +121,12 @@ class CompiledTest(HeldTest):
             self.assertTrue(all(within(x, bound) for x, bound in zip(pose.positions, compiled.bounds)))
             trusted = set(run.liars) <= set(world.lots[place])
             self.assertFalse(struck and trusted)
+            if trusted and tick == block_ticks(world, compiled.splits[place]) - 1 and at + 1 < len(poses):
+                self.assertEqual(compiled.find_place(poses[at + 1].state)[0], place)
             halves = compiled.halves_at(pose.state, pose.registers)
             if tick == 0:
                 begin = pose
+                listener = self.listener_at(compiled, pose)
                 self.assertEqual(pose.memories, (0,) * len(world.sensors))
                 self.assertTrue(all(within(x, half) for x, half in zip(pose.positions, halves)))
                 self.assertTrue(all(within(half, most) for half, most in zip(halves, compiled.halves[place])))
@@ -132,17 +135,54 @@ class CompiledTest(HeldTest):
             else:
                 self.assertIsNone(halves)
                 self.assertEqual(pose.registers, begin.registers)
+            self.assertEqual(struck, listener.is_struck)
             if at + 1 < len(poses):
-                self.check_tick(compiled, begin, pose, poses[at + 1], run.ticks[at], trusted)
+                self.check_words(compiled, pose, listener)
+                listener.hear(tick, run.ticks[at][1])
+                if trusted and tick + 1 == listener.ticks:
+                    self.assertEqual(listener.told_cells(), tuple(listener.cells))
+                self.check_tick(compiled, begin, pose, poses[at + 1], run.ticks[at], listener)
         return compiled.find_place(poses[-1].state)[0]
 
-    def check_tick(self, compiled, begin, pose, behind, told_tick, trusted):
+    def listener_at(self, compiled, pose):
+        """Return a listener to the block that begins at a pose."""
+        world, (place, _, _) = compiled.world, compiled.find_place(pose.state)
+        split, halves = compiled.splits[place], list(compiled.halves[place])
+        for register, mode in enumerate(world.plant.growing):
+            halves[mode] = pose.registers[register]
+        cells = [find_cell(split.counts, mode, half, x) for mode, (half, x) in enumerate(zip(halves, pose.positions))]
+        return Listener(world, split, halves, cells)
+
+    def check_words(self, compiled, pose, listener):
+        """Check that each coder says what it must, and what a checker says just at the ends of its stretches."""
+        world, program = compiled.world, compiled.program
+        _, tick, struck = compiled.find_place(pose.state)
+        for sensor, (coder, memory) in enumerate(zip(program.coders, pose.memories)):
+            word, _ = coder.say(pose.state, pose.registers, memory, pose.positions)
+            if listener.due_word(sensor, tick, pose.positions) is not None:
+                self.assertEqual(word, listener.due_word(sensor, tick, pose.positions))
+            if struck or listener.checks.get(sensor) != tick:
+                continue
+            cells = listener.told_cells()
+            middles = list(pose.positions)
+            ends = {mode: listener.stretch(mode, cells[mode], tick) for mode in world.sensors[sensor].seen if mode in world.plant.growing}
+            for mode, (low, high) in ends.items():
+                middles[mode] = times(plus(low, high), (1, 2))
+            good, bad = world.sensors[sensor].channel.parted_words(tick)
+            for mode, (low, high) in ends.items():
+                for place, due in ((low, good), (minus(low, (1, 10 ** 30)), bad), (high, bad), (minus(high, (1, 10 ** 30)), good)):
+                    tried = list(middles)
+                    tried[mode] = place
+                    self.assertEqual(coder.say(pose.state, pose.registers, memory, tried)[0], due)
+
+    def check_tick(self, compiled, begin, pose, behind, told_tick, listener):
         world = compiled.world
         place, tick, _ = compiled.find_place(pose.state)
         split = compiled.splits[place]
         is_last = tick + 1 == block_ticks(world, split)
         was_struck = is_last and compiled.find_place(behind.state)[0] > place
-        self.assertFalse(was_struck and trusted)
+        if is_last:
+            self.assertEqual(was_struck, listener.is_struck)
         for mode in range(world.plant.modes):
             factor = world.plant.factors[mode][pose.tick % world.period]
             moved = plus(times(factor, pose.positions[mode]), told_tick[2][mode])
@@ -150,10 +190,8 @@ class CompiledTest(HeldTest):
             if mode not in world.plant.growing or not is_last or was_struck:
                 self.assertEqual(told_input, (0, 1))
                 continue
-            half = begin.registers[world.plant.growing.index(mode)]
-            if trusted:
-                cell = find_cell(split.counts, mode, half, begin.positions[mode])
-                self.assertEqual(told_input, negative(told_middle(world, split, mode, half, cell, tick + 1)))
+            half, cell = begin.registers[world.plant.growing.index(mode)], listener.told_cells()[mode]
+            self.assertEqual(told_input, negative(told_middle(world, split, mode, half, cell, tick + 1)))
         if is_last:
             for register, mode in enumerate(world.plant.growing):
                 due = next_half(world, split, mode, begin.registers[register], was_struck)
@@ -262,6 +300,19 @@ class WorldsTest(CompiledTest):
             self.check_run(compiled, wild_run(source, compiled, 3))
         self.assertEqual([heeds for heeds, _ in compiled.program.controller.rows][0], (0,))
         self.assertIn((1,), [heeds for heeds, _ in compiled.program.controller.rows])
+
+    def test_a_helper_that_tells_too_beside_a_listed_liar(self):
+        # Sensor 3 leaves lists of two for both modes; sensor 1 tells a digit of its own and helps with both.
+        uses = (clean_use(2), clean_use(4), clean_use(4), ring(3))
+        plant = plain_plant((6, 5), (-6, 5), start=(3, 1))
+        world = World(plant, [Sensor((0, 1), Channel(4, [use])) for use in uses], [(0,), (3,)])
+        splits = [Split((0,), True, 0, 2, 1, ((1, 2, 1, 2), (1, 1, 2, 2))), Split((3,), False, 0, 1, 0, ((1, 2, 1, 1), (1, 1, 2, 1)))]
+        self.assertEqual(list_tasks(world, (0,), splits[0].counts, 1), ((0, 3), (1, 3)))
+        compiled = compile_splits(world, splits)
+        self.check_parts(compiled)
+        source = random.Random(27)
+        far = [self.check_run(compiled, wild_run(source, compiled, 3, liars=liars)) for liars in ((3,), (0,), ()) * 12]
+        self.assertEqual(set(far), {0, 1})
 
     def test_longer_blocks_than_are_needed(self):
         world = checked_world()
@@ -437,6 +488,52 @@ class CompileTest(CompiledTest):
                 self.assertFalse(is_promised(world, splits))
         self.assertGreater(promised, 20)
         self.assertGreater(large, 2)
+
+    def test_blocks_are_at_most_8_unless_told_otherwise(self):
+        # With an idle period two words need 7 telling periods: 2 to the power of 7 is above 1.83 to the power of 8.
+        world = clean_world((183, 100), 2, 1)
+        self.raises(TooLarge, {}, compile_world, world, idle=1)
+        self.raises(TooLarge, {}, compile_world, world, 8, 1)
+        self.raises(TooNear, {"tried": 7}, compile_world, world, 7, 1)
+        self.raises(TooNear, {"tried": 8}, compile_world, clean_world((93, 50), 2, 1), idle=1)
+
+    def test_each_side_of_100_thresholds(self):
+        for cells, large in ((100, False), (101, False), (102, True), (600, True)):
+            world = World(plain_plant((cells - 1, 1)), [Sensor((0,), Channel.clean(12))] * 3)
+            splits = [Split((), False, 0, 3, 0, ((cells, 1, 1),))]
+            world = world.with_plant(plain_plant((1, 1)))
+            if large:
+                self.raises(TooLarge, {}, compile_splits, world, splits)
+                continue
+            compiled = compile_splits(world, splits)
+            self.check_parts(compiled)
+            self.check_run(compiled, wild_run(random.Random(25), compiled, 2))
+
+    def test_each_side_of_2000_states(self):
+        # Behind the telling period each cell has a state in each of so many ticks.
+        world = World(Plant([[(1, 1)] * 4], whole(1), whole(1)), [Sensor((0,), Channel.clean(10, 4))])
+        for cells, listing, large in ((51, 8, False), (57, 8, True), (100, 3, False), (100, 4, True)):
+            splits = [Split((), False, 1, 1, listing, ((cells,),))]
+            if large:
+                self.raises(TooLarge, {}, compile_splits, world, splits)
+            else:
+                compiled = compile_splits(world, splits)
+                self.assertGreater(len(compiled.program), 1800 if cells < 100 else 1500)
+                self.check_parts(compiled)
+
+    def test_each_side_of_50000_moves(self):
+        # Three checkers of twelve outcomes are heeded at once for each told cell of sensor 1.
+        world = World(plain_plant((1, 1), start=(1, 1)), [Sensor((0,), Channel.clean(12))] * 4, [(0,), (1,)])
+        for cells, large in ((20, False), (28, False), (29, True), (60, True)):
+            splits = [Split((0,), True, 0, 2, 0, ((1, cells, 1, 1),)), Split((1,), False, 0, 1, 0, ((1, 1, 2, 1),))]
+            if large:
+                self.raises(TooLarge, {}, compile_splits, world, splits)
+                continue
+            compiled = compile_splits(world, splits)
+            moves = sum(len(row) for _, row in compiled.program.controller.rows)
+            self.assertTrue(1728 * cells < moves <= 50000)
+            self.check_parts(compiled)
+            self.check_run(compiled, wild_run(random.Random(26), compiled, 3))
 
     def test_too_large(self):
         # 600 messages of two sensors are more than a coder may have thresholds for.

@@ -39,10 +39,10 @@ def anchors_of(compiled, place):
     return told
 
 
-def chain(many, back=False):
+def chain(many):
     """Return a world without sensors and a program that goes through so many states, and stays in the last one."""
     world = half_world((0, 1))
-    rows = [((), [(min(state + 1, many - 1) if not back else (state + 1) % many, (), ())]) for state in range(many)]
+    rows = [((), [(min(state + 1, many - 1), (), ())]) for state in range(many)]
     return world, Program(Controller((), 1, (), rows), ())
 
 
@@ -66,21 +66,14 @@ class FitTest(HeldTest):
         self.raises(NotDone, {"most": 400}, fit_keeping, half_world((2, 1), (1, 1)), still_program(world), (), ())
 
     def test_exactly_400_lines_and_one_more(self):
-        # State 0 to 398 are taken once each, and the last one, which is widened by its own step, twice.
-        for many in (396, 397, 398):
-            world, program = chain(many)
-            world = world.with_plant(Plant([[(-1, 1000000)]], [ONE], [(0, 1)]))
-            self.check_counted(world, program)
-        for many in (399, 400, 401, 402):
-            self.check_counted(*chain(many, True))
-
-    def check_counted(self, world, program):
-        try:
-            due = plain_fit(world, program, (), [])
-        except NotDone:
-            self.raises(NotDone, {"most": 400}, fit_keeping, world, program, ())
-        else:
-            self.assertEqual(fit_keeping(world, program, ()).lines, due)
+        # The start, 398 images and an anchor in which they end.
+        world, program = chain(400)
+        told = fit_keeping(world, program, (), [line(399, ((-2, 2),))])
+        self.assertEqual(len(told.lines), 400)
+        self.assertEqual(told.lines[2][2], (((make_form((-3, 2)), make_form((3, 2)))),))
+        self.assertIsNone(keeping_fault(world, program, told))
+        world, program = chain(401)
+        self.raises(NotDone, {"most": 400}, fit_keeping, world, program, (), [line(400, ((-2, 2),))])
 
     def test_400_anchors_and_one_more(self):
         world, program = chain(401)

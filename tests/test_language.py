@@ -204,6 +204,18 @@ class LanguageTest(unittest.TestCase):
                 if isinstance(node, ast.Call) and isinstance(node.func, ast.Attribute) and node.func.attr in METHODS:
                     self.assertEqual(node.keywords, [])
 
+    def test_stars_stand_before_names_and_targets_nest_names(self):
+        for _, _, tree in self.trees():
+            for node in ast.walk(tree):
+                if isinstance(node, ast.Call):
+                    for told in node.args:
+                        if isinstance(told, ast.Starred):
+                            self.assertIsInstance(told.value, (ast.Name, ast.Attribute))
+                    self.assertIsInstance(node.func, (ast.Name, ast.Attribute))
+                if isinstance(node, ast.Tuple) and isinstance(node.ctx, ast.Store):
+                    for part in [one for told in node.elts if isinstance(told, ast.Tuple) for one in told.elts]:
+                        self.assertIsInstance(part, (ast.Name, ast.Tuple))
+
     def test_lambdas_stand_alone(self):
         for _, _, tree in self.trees():
             lines = [node.lineno for node in ast.walk(tree) if isinstance(node, ast.Lambda)]
