@@ -6,7 +6,7 @@ The register of a growing mode is its place among the growing modes.
 from farheld.blocks import middle_part, next_half_parts
 from farheld.digits import count_cells
 from farheld.forms import make_form
-from farheld.ratios import ZERO, make_ratio, minus, negative, plus, times
+from farheld.ratios import ZERO, make_ratio, minus, negative, plus, size_of, times
 
 
 def cut_forms(plan, mode):
@@ -23,10 +23,10 @@ def cut_forms(plan, mode):
 
 def stretch_forms(plan, mode, cell, tick):
     """Return the ends of the told stretch of a cell, widened by the mode's push."""
-    plant = plan.world.plant
+    carried, gathered = plan.motion_until(mode, tick)
     part = make_ratio(1, count_cells(plan.split.counts, mode))
-    wide = times(plant.growth(mode, 0, tick), part)
-    beyond = plus(plant.gathered(mode, 0, tick), plant.pushes[mode])
+    wide = times(size_of(carried), part)
+    beyond = plus(gathered, plan.world.plant.pushes[mode])
     middle = _middle_at(plan, mode, cell, tick)
     register = _register_of(plan, mode)
     return (
@@ -55,7 +55,8 @@ def half_forms(plan, struck):
 
 def _middle_at(plan, mode, cell, tick):
     """Return the told middle of a cell at a tick as a multiple of the half."""
-    return times(plan.world.plant.carried(mode, 0, tick), middle_part(plan.split.counts, mode, cell))
+    carried, _ = plan.motion_until(mode, tick)
+    return times(carried, middle_part(plan.split.counts, mode, cell))
 
 
 def _register_of(plan, mode):

@@ -41,6 +41,7 @@ class BlockPlan:
             uses = world.uses(helper, self.told, self.listed - self.told)
             self._helps[helper] = Telling(uses, multiplied(bases), 1)
         self._words = {}
+        self._motions = {}
 
     def first_key(self):
         """Return the key at a block's begin."""
@@ -66,6 +67,13 @@ class BlockPlan:
         _, lefts = key
         left = lefts[list(self._helps).index(sensor)]
         return (left, self._words_at(self._helps[sensor], "help", sensor, tick - self.told, len(left)))
+
+    def motion_until(self, mode, tick):
+        """Return what is carried and what is gathered of a mode until a tick of the block."""
+        if (mode, tick) not in self._motions:
+            plant = self.world.plant
+            self._motions[(mode, tick)] = (plant.carried(mode, 0, tick), plant.gathered(mode, 0, tick))
+        return self._motions[(mode, tick)]
 
     def heeded(self, tick, key):
         """Return the sensors whose outcomes the controller looks at."""

@@ -4,7 +4,7 @@ from farheld.channels import use_kind
 from farheld.digits import count_cells, count_told, multiplied
 from farheld.errors import BadSplits
 from farheld.ratios import (
-    ZERO, compare, floor_of, greatest_of, make_ratio, minus, over, plus, times,
+    ZERO, compare, floor_of, greatest_of, make_ratio, minus, over, plus, size_of, times,
 )
 from farheld.sequences import is_sequence
 from farheld.splits import Split, list_tasks, split_fault
@@ -138,18 +138,30 @@ def guess_halves(world, splits):
 
 def told_bounds(world, splits):
     """Return by mode the bound that no block passes at any tick."""
-    plant = world.plant
-    halves = guess_halves(world, splits)
+    return bounds_of(world, splits, guess_halves(world, splits))
+
+
+def bounds_of(world, splits, halves):
+    """Return by mode the bound that no block passes if halves bound the begins of the blocks of each lot."""
     told = []
-    for mode in range(plant.modes):
-        bound = ZERO
+    for mode in range(world.plant.modes):
+        reaches = []
         for split, row in zip(splits, halves):
-            for tick in range(block_ticks(world, split)):
-                reach = plus(times(plant.growth(mode, 0, tick), row[mode]), plant.gathered(mode, 0, tick))
-                if compare(reach, bound) > 0:
-                    bound = reach
-        told.append(bound)
+            reaches.append(_greatest_reach(world.plant, mode, row[mode], block_ticks(world, split)))
+        told.append(greatest_of(reaches))
     return tuple(told)
+
+
+def _greatest_reach(plant, mode, half, ticks):
+    """Return the greatest size that a mode from within a half can have at the begins of so many ticks."""
+    # From tick to tick growth * half + gathered is multiplied by the factor's size, and the push is added.
+    reach = half
+    greatest = half
+    for tick in range(ticks - 1):
+        reach = plus(times(size_of(plant.factors[mode][tick % plant.period]), reach), plant.pushes[mode])
+        if compare(reach, greatest) > 0:
+            greatest = reach
+    return greatest
 
 
 def check_splits(world, splits):

@@ -3,11 +3,11 @@
 from farheld.blockforms import half_forms, input_forms
 from farheld.blockplans import BlockPlan
 from farheld.blockrules import Witness
-from farheld.blocks import block_ticks, check_splits, guess_halves, told_bounds
+from farheld.blocks import block_ticks, bounds_of, check_splits, guess_halves
 from farheld.digits import multiplied
 from farheld.errors import TooLarge
 from farheld.fitting import MOST_MOVES
-from farheld.programs import MOST_STATES, Coder, Controller, Program
+from farheld.programs import MOST_STATES, STILL_ROWS, STILL_RULES, Coder, Controller, Program, registers_in
 from farheld.ratios import is_whole, plus, times
 from farheld.splits import plan_splits
 
@@ -20,8 +20,8 @@ class Compiled:
         self.splits = splits
         self.program = program
         self.places = places
-        self.bounds = told_bounds(world, splits)
         self.halves = guess_halves(world, splits)
+        self.bounds = bounds_of(world, splits, self.halves)
 
     def __eq__(self, other):
         if not isinstance(other, Compiled):
@@ -64,9 +64,9 @@ def compile_splits(world, splits):
     plans = [BlockPlan(world, split) for split in splits]
     states = Layout(plans).all_states()
     moves = Moves(plans)
-    rows = [(state.heeds, moves.moves_of(state)) for state in states]
+    rows = tuple([(state.heeds, moves.moves_of(state)) for state in states])
     registers = [world.plant.starts[mode] for mode in world.plant.growing]
-    controller = Controller(world.outcomes, world.plant.modes, registers, rows)
+    controller = Controller(world.outcomes, world.plant.modes, registers, STILL_ROWS).with_rows(rows, 0)
     coders = [_coder_of(plans, sensor, states) for sensor in range(len(world.sensors))]
     places = tuple([(state.place, state.tick, state.key is None) for state in states])
     return Compiled(world, tuple(splits), Program(controller, coders), places)
@@ -137,8 +137,8 @@ class Moves:
     def moves_of(self, state):
         """Return the moves of a state for each row of the outcomes that it heeds."""
         if state.tick + 1 < self._plans[state.place].ticks:
-            return [(state.numbers[key], (), ()) for key in state.keys_behind]
-        return [self._last_move(state.place, key) for key in state.keys_behind]
+            return tuple([(state.numbers[key], (), ()) for key in state.keys_behind])
+        return tuple([self._last_move(state.place, key) for key in state.keys_behind])
 
     def _last_move(self, place, key):
         if (place, key) not in self._last:
@@ -155,6 +155,8 @@ def _coder_of(plans, sensor, states):
     """Return the coder of a sensor."""
     witnesses = [Witness(plan, sensor) for plan in plans]
     memories = max([witness.memories for witness in witnesses])
-    rules = [witnesses[state.place].rule_at(state.tick, state.key, memories) for state in states]
+    rules = tuple([witnesses[state.place].rule_at(state.tick, state.key, memories) for state in states])
     told = plans[0].world.sensors[sensor]
-    return Coder(told.channel.words, told.seen, rules, memories)
+    made = Coder(told.channel.words, told.seen, STILL_RULES, memories).with_rules(rules, 0)
+    made.registers_needed = registers_in(rules)
+    return made

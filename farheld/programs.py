@@ -66,8 +66,7 @@ class Coder:
         self.rules = tuple([kept_rule(rule, words, self.modes, memories) for rule in rules])
         self.memories = memories
         self.first = first
-        forms = [form for _, looks, _ in self.rules for _, thresholds in looks for form in thresholds]
-        self.registers_needed = max([0] + [registers_of(form) for form in forms])
+        self.registers_needed = registers_in(self.rules)
 
     def __eq__(self, other):
         if not isinstance(other, Coder):
@@ -181,6 +180,12 @@ class Program:
 
     def _with_coder(self, sensor, coder):
         return Program(self.controller, _replaced(self.coders, sensor, coder))
+
+
+def registers_in(rules):
+    """Return how many registers there must be for the thresholds of rules."""
+    forms = [form for _, looks, _ in rules for _, thresholds in looks for form in thresholds]
+    return max([0] + [registers_of(form) for form in forms])
 
 
 def _check_controller(outcomes, modes, registers, rows, first):

@@ -347,3 +347,17 @@ class SplitsTest(HeldTest):
         begun = time.time()
         self.check_halves(world, splits)
         self.assertLess(time.time() - begun, 3)
+
+    def test_factors_of_many_figures_in_time(self):
+        # 72 ticks of factors of 150 figures.
+        bottom = 10 ** 150 + 7
+        plant = Plant([[make_ratio(bottom + 2 * at + 1, bottom) for at in range(4)]] * 2, whole(1, 1), whole(5, 5))
+        world = World(plant, [Sensor((0, 1), Channel.clean(12, 4))] * 4, list(itertools.combinations(range(4), 1)))
+        splits = []
+        for place, lot in enumerate(world.lots):
+            row = tuple(2 if sensor == (2 if lot == (3,) else 3) else 1 for sensor in range(4))
+            splits.append(Split(lot, place < 3, 1, 8, 8, (row, row)))
+        begun = time.time()
+        bounds = told_bounds(world, splits)
+        self.assertLess(time.time() - begun, 3)
+        self.assertEqual(len(bounds), 2)
