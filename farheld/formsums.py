@@ -1,7 +1,7 @@
 """Sums of forms, and their greatest values over spans: a couple (low, high) for each register."""
 
 from farheld.forms import make_form
-from farheld.ratios import compare, negative, plus, times
+from farheld.ratios import compare, minus, negative, plus, times
 
 
 def constant_form(constant):
@@ -11,7 +11,8 @@ def constant_form(constant):
 
 def negative_form(form):
     """Return the form with the other sign."""
-    return scaled_form(form, (-1, 1))
+    constant, parts = form
+    return (negative(constant), tuple([(register, negative(multiple)) for register, multiple in parts]))
 
 
 def scaled_form(form, factor):
@@ -52,10 +53,16 @@ def least_over(form, spans):
     return negative(greatest_over(negative_form(form), spans))
 
 
+def greatest_gap(form, other, spans):
+    """Return the greatest value over spans of a form less another one."""
+    if not form[1] and not other[1]:
+        return minus(form[0], other[0])
+    return greatest_over(sum_of_forms(form, negative_form(other)), spans)
+
+
 def is_at_most(form, other, spans):
     """Tell whether a form is at most another one all over the spans."""
-    gap = sum_of_forms(form, negative_form(other))
-    return greatest_over(gap, spans)[0] <= 0
+    return greatest_gap(form, other, spans)[0] <= 0
 
 
 def is_within(span, other):

@@ -1,6 +1,6 @@
 """Motions: the moves of a program as a keeping asks for them, by numbers where they are compared often."""
 
-from farheld.formsums import constant_form, greatest_over, least_over
+from farheld.formsums import constant_form, greatest_over, least_over, negative_form, sum_of_forms
 from farheld.ratios import ONE, ZERO
 
 
@@ -37,6 +37,26 @@ class Change:
         return not any([register in self.changed for register, _ in parts])
 
 
+class Look:
+    """A look of a coder, with what must be at most 0 over spans if its thresholds are to ascend there."""
+
+    def __init__(self, mode, thresholds):
+        self.mode = mode
+        self.thresholds = thresholds
+        self._gaps = []
+        self._rises = True
+        for at in range(len(thresholds) - 1):
+            gap = sum_of_forms(thresholds[at], negative_form(thresholds[at + 1]))
+            if gap[1]:
+                self._gaps.append(gap)
+            elif gap[0][0] > 0:
+                self._rises = False
+
+    def is_ascending(self, spans):
+        """Tell whether each threshold is at most the one behind it all over the spans."""
+        return self._rises and all([greatest_over(gap, spans)[0] <= 0 for gap in self._gaps])
+
+
 class Frame:
     """A world, a program and a lot, with what all lines of a keeping ask of them."""
 
@@ -49,6 +69,7 @@ class Frame:
         self._kinds = {}
         self._motions = {}
         self._heard = {}
+        self._looks = {}
 
     def form_number(self, form):
         """Return the number of a form, which is its place in `forms`."""
@@ -67,6 +88,13 @@ class Frame:
                     known[move] = self._new_motion(place, move)
             self._motions[state] = [known[move] for move in moves]
         return self._motions[state]
+
+    def looks_of(self, sensor, state):
+        """Return the looks of a coder in a state."""
+        if (sensor, state) not in self._looks:
+            _, looks, _ = self.program.coders[sensor].rules[state]
+            self._looks[(sensor, state)] = [Look(mode, thresholds) for mode, thresholds in looks]
+        return self._looks[(sensor, state)]
 
     def outcomes_of(self, sensor, phase, word):
         """Return the outcomes that can come of a word, of any word if it is None."""

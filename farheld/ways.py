@@ -6,8 +6,8 @@ the frame; a high that came in as a threshold is marked, as no position is at it
 """
 
 from farheld.formsums import (
-    constant_form, form_behind, greatest_over, is_at_most, is_within, least_over, negative_form, scaled_form,
-    sum_of_forms,
+    constant_form, form_behind, greatest_gap, greatest_over, is_at_most, is_within, least_over, negative_form,
+    scaled_form, sum_of_forms,
 )
 from farheld.motions import Change
 from farheld.ratios import ZERO, compare, greatest_of, least_of, negative
@@ -24,12 +24,12 @@ class Way:
 
 
 class View:
-    """A look, whether its thresholds ascend over the spans, and how it cuts bands."""
+    """A look over the spans of a line, and how it cuts bands."""
 
-    def __init__(self, mode, thresholds, ascending):
-        self.mode = mode
-        self.thresholds = thresholds
-        self.ascending = ascending
+    def __init__(self, look, spans):
+        self.mode = look.mode
+        self.thresholds = look.thresholds
+        self.is_cutting = look.is_ascending(spans)
         self.cuts = {}
 
 
@@ -46,6 +46,8 @@ class Reach:
         self._changes = {}
         self._rooms = {}
         self._mode_rooms = {}
+        self._ends_ahead = {}
+        self._moved = {}
 
     def list_ways(self):
         """Return the ways in ascending order; of those that do not differ only the first."""
@@ -95,8 +97,7 @@ class Reach:
         if sensor in self._frame.lot:
             return [(bands, said + (None,), memories + (0,)) for bands, said, memories in parts]
         coder = self._frame.program.coders[sensor]
-        _, looks, _ = coder.rules[self._state]
-        views = [View(mode, thresholds, self._is_ascending(thresholds)) for mode, thresholds in looks]
+        views = [View(look, self._spans) for look in self._frame.looks_of(sensor, self._state)]
         told = []
         for bands, said, memories in parts:
             cut = [(bands, ())]
@@ -122,19 +123,16 @@ class Reach:
         """Return (place, band behind it) for each possible place."""
         thresholds = view.thresholds
         many = len(thresholds)
-        if not view.ascending:
+        if not view.is_cutting:
             return [(place, band) for place in range(many + 1)]
         lows, highs = band
-        numbers = [self._frame.form_number(form) for form in thresholds]
+        frame = self._frame
         told = []
         for place in range(self._count_below(thresholds, lows), self._count_not_above(thresholds, highs) + 1):
-            behind_lows = lows if place == 0 else lows + (numbers[place - 1],)
-            behind_highs = highs if place == many else highs + ((numbers[place], True),)
+            behind_lows = lows if place == 0 else lows + (frame.form_number(thresholds[place - 1]),)
+            behind_highs = highs if place == many else highs + ((frame.form_number(thresholds[place]), True),)
             told.append((place, (behind_lows, behind_highs)))
         return told
-
-    def _is_ascending(self, thresholds):
-        return all([is_at_most(thresholds[at], thresholds[at + 1], self._spans) for at in range(len(thresholds) - 1)])
 
     def _count_below(self, thresholds, lows):
         """Return how many of ascending thresholds are at most some low; no place ahead of them is possible."""
@@ -156,9 +154,8 @@ class Reach:
             first = 0
             while first < last:
                 middle = (first + last) // 2
-                gap = sum_of_forms(self._frame.forms[number], negative_form(thresholds[middle]))
-                room = greatest_over(gap, self._spans)[0]
-                if room < 0 or room == 0 and is_threshold:
+                gap, _ = greatest_gap(self._frame.forms[number], thresholds[middle], self._spans)
+                if gap < 0 or gap == 0 and is_threshold:
                     last = middle
                 else:
                     first = middle + 1
@@ -190,21 +187,18 @@ class Reach:
         for mode, both in enumerate(ends):
             case = (mode, way.bands[mode], way.motion.kind, number)
             if case not in self._mode_rooms:
-                self._mode_rooms[case] = self._room_for(mode, way, change, both)
+                ends_case = (mode, way.motion.kind, number)
+                if ends_case not in self._ends_ahead:
+                    self._ends_ahead[ends_case] = [_end_ahead(end, change, way.motion.steps[mode]) for end in both]
+                self._mode_rooms[case] = self._room_for(mode, way.bands[mode], self._ends_ahead[ends_case])
             rooms.append(self._mode_rooms[case])
         return rooms
 
-    def _room_for(self, mode, way, change, both):
-        low, high = both
-        lows, highs = self._moved_band(mode, way.bands[mode])
-        _, parts = way.motion.steps[mode]
-        low_end = sum_of_forms(form_behind(low, change.nexts), negative_form((ZERO, parts)))
-        high_end = sum_of_forms(form_behind(high, change.nexts), negative_form((ZERO, parts)))
-        least = least_of([self._greatest_gap(low_end, form) for form in lows])
-        return (least, greatest_of([negative(self._greatest_gap(form, high_end)) for form in highs]))
-
-    def _greatest_gap(self, form, other):
-        return greatest_over(sum_of_forms(form, negative_form(other)), self._spans)
+    def _room_for(self, mode, band, ends):
+        low, high = ends
+        lows, highs = self._moved_band(mode, band)
+        least = least_of([greatest_gap(low, form, self._spans) for form in lows])
+        return (least, greatest_of([negative(greatest_gap(form, high, self._spans)) for form in highs]))
 
     def _moved_band(self, mode, band):
         """Return the forms that a mode is not below and not above behind the tick, ahead of its step."""
@@ -217,8 +211,11 @@ class Reach:
         return (low_forms, [self._moved_form(mode, number, push) for number in highs])
 
     def _moved_form(self, mode, number, push):
-        moved = scaled_form(self._frame.forms[number], self._factors[mode])
-        return sum_of_forms(moved, constant_form(push))
+        case = (mode, number, push)
+        if case not in self._moved:
+            moved = scaled_form(self._frame.forms[number], self._factors[mode])
+            self._moved[case] = sum_of_forms(moved, constant_form(push))
+        return self._moved[case]
 
     def _high_image(self, change, forms):
         best, bound = None, ZERO
@@ -235,3 +232,9 @@ class Reach:
             if best is None or compare(least, bound) > 0:
                 best, bound = form, least
         return best if change.leaves(best) else constant_form(bound)
+
+
+def _end_ahead(end, change, step):
+    """Return what an end of the next line is ahead of the changes, less the step without its constant."""
+    _, parts = step
+    return sum_of_forms(form_behind(end, change.nexts), negative_form((ZERO, parts)))
